@@ -1,0 +1,1 @@
+"""Afterleaves: rule books on loose leaves that point into themselves."""
