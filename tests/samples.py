@@ -1,5 +1,7 @@
-"""Small texts for the tests."""
+"""Small texts, leaves and books for the tests."""
 
+from afterleaves.books import Book
+from afterleaves.leaves import Leaf
 from afterleaves.texts import Text
 
 EXAMPLE = (
@@ -50,3 +52,11 @@ def aslists(thing):
     if isinstance(thing, (tuple, list)):
         return [aslists(part) for part in thing]
     return thing
+
+
+def leaf(label, front=("f",), back=("b",), pen=()):
+    return Leaf(label, front, back, pen)
+
+
+def book(*leaves):
+    return Book(leaves)

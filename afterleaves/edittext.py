@@ -1,0 +1,32 @@
+"""Writing edits as lines, and reading them."""
+
+from afterleaves.cursor import Cursor, line_words
+from afterleaves.edits import judged_edit
+from afterleaves.textread import read_block
+from afterleaves.textwrite import write_block
+
+MOST_PLACE = 24
+EDITS = ("put", "drop", "swap", "move")
+
+
+def write_edit(edit):
+    """The line of an edit."""
+    kept = judged_edit(edit)
+    if kept[0] in ("put", "swap"):
+        return f"{kept[0]} {kept[1]} {write_block(kept[2])}"
+    return " ".join([str(part) for part in kept])
+
+
+def read_edit(line):
+    """The edit that a line tells."""
+    words = line_words(line, 0)
+    cursor = Cursor(words, 0, 0)
+    word = cursor.take_one(EDITS)
+    if word == "put":
+        return (word, cursor.take_integer(0, MOST_PLACE), read_block(words, 0, 2))
+    name = cursor.take_name()
+    if word == "swap":
+        return (word, name, read_block(words, 0, 2))
+    edit = (word, name) if word == "drop" else (word, name, cursor.take_integer(0, MOST_PLACE))
+    cursor.take_end()
+    return edit

@@ -1,0 +1,86 @@
+"""The interface as the document lists it, and the limits that every file of the package keeps to."""
+
+import ast
+import unittest
+from pathlib import Path
+
+FOLDER = Path(__file__).parent.parent / "afterleaves"
+
+FUNCTIONS = {
+    "labels": {"between": "low high", "write_label": "label", "read_label": "word", "write_page": "page",
+               "read_page": "word", "neighbours": "labels"},
+    "textwrite": {"write_block": "block", "write_text": "text"},
+    "textread": {"read_block": "words line first", "read_text": "lines"},
+    "edits": {"edited": "text edit", "edited_all": "text edits", "undoing": "text edit", "undoing_all": "text edits"},
+    "edittext": {"write_edit": "edit", "read_edit": "line"},
+    "lines": {"token_width": "token", "row_width": "row", "set_lines": "tokens width", "line_cost": "rows width",
+              "width_changes": "tokens most"},
+    "printing": {"see_token": "text target word", "span_token": "first last", "entry_rows": "tokens form"},
+    "ranges": {"preferred_ranges": "book pages", "ranges_true": "book pairs pages", "told_pages": "book pairs",
+               "write_range": "pair", "read_range": "token"},
+}
+CLASSES = {
+    ("formats", "Format"): {"__init__": "width height near", "__eq__": None},
+    ("texts", "Text"): {"__init__": "blocks", "__contains__": None, "__getitem__": None, "__len__": None, "__iter__": None,
+                        "__eq__": None, "spot": "name", "pointers": "", "targets": "k item"},
+    ("printing", "Printed"): {"__init__": "text k told form", "heights": "", "__len__": None},
+    ("leaves", "Leaf"): {"__init__": "label front back pen", "__eq__": None, "side_rows": "side", "says": "side row word",
+                         "said_rows": "side", "same_print": "other", "penned": "strokes"},
+    ("books", "Book"): {"__init__": "leaves", "labels": "", "__contains__": None, "__getitem__": None, "__len__": None,
+                        "__iter__": None, "__eq__": None, "pages": "", "facing": "page", "text_rows": "page",
+                        "same_print": "other"},
+}
+
+
+def tree(name):
+    return ast.parse((FOLDER / f"{name}.py").read_text(encoding="utf-8"))
+
+
+def arguments(function):
+    return " ".join([argument.arg for argument in function.args.args if argument.arg != "self"])
+
+
+def functions(body):
+    return {node.name: node for node in body if isinstance(node, ast.FunctionDef)}
+
+
+class InterfaceTest(unittest.TestCase):
+    def check(self, told, there, where):
+        for name, words in told.items():
+            with self.subTest(f"{where}.{name}"):
+                self.assertIn(name, there)
+                if words is not None:
+                    self.assertEqual(arguments(there[name]), words)
+
+    def test_functions(self):
+        for name, told in FUNCTIONS.items():
+            self.check(told, functions(tree(name).body), name)
+
+    def test_classes(self):
+        for (name, kind), told in CLASSES.items():
+            bodies = [node.body for node in tree(name).body if isinstance(node, ast.ClassDef) and node.name == kind]
+            self.assertEqual(len(bodies), 1)
+            self.check(told, functions(bodies[0]), kind)
+
+
+class LimitsTest(unittest.TestCase):
+    def test_the_folder_holds_plain_files_only(self):
+        there = [path.name for path in FOLDER.iterdir() if path.name != "__pycache__"]
+        self.assertIn("__init__.py", there)
+        for name in there:
+            self.assertRegex(name, r"^[a-z0-9_]+\.py$")
+
+    def test_sizes_and_characters(self):
+        for path in sorted(FOLDER.glob("*.py")):
+            with self.subTest(path.name):
+                source = path.read_text(encoding="utf-8")
+                self.assertRegex(source, r"\A[ -~\n]*\Z")
+                self.assertLessEqual(len(source.splitlines()), 399)
+                self.assertLessEqual(max([len(line) for line in source.splitlines()]), 120)
+                for node in ast.walk(ast.parse(source)):
+                    if isinstance(node, ast.FunctionDef):
+                        self.assertLessEqual(node.end_lineno - node.lineno + 1, 40, node.name)
+
+
+if __name__ == "__main__":
+    unittest.main()
