@@ -19,6 +19,11 @@ def is_note(item):
     return not isinstance(item, str) and item[0] == "note"
 
 
+def must_begin_leaf(block):
+    """Whether the first row of a block must be the first one of a leaf."""
+    return block[0] in ("contents", "index") or (block[0] == "head" and block[2] == 1)
+
+
 def kept_words(words, least, most):
     """A row of so many words."""
     if not is_sized(words, least, most) or not all([is_word(word) for word in words]):

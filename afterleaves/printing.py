@@ -89,3 +89,13 @@ def span_token(first, last):
 def entry_rows(tokens, form):
     """The rows of an entry of a list of contents or an index."""
     return set_lines(tokens, form.width)
+
+
+def token_spot(rows, token):
+    """The row, and the place in it, of the token with this index of all that stand in the rows."""
+    for k, row in enumerate(rows):
+        count = len(row.split(" "))
+        if token < count:
+            return (k, token)
+        token = token - count
+    return None

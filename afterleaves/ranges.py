@@ -8,7 +8,7 @@ from afterleaves.printing import span_token
 
 def preferred_ranges(book, pages):
     """The fewest ranges that are true for the pages, as pairs of pages."""
-    shown = _shown_pages(book)
+    shown = shown_pages(book)
     spots = {page: k for k, page in enumerate(shown)}
     ranges = []
     for page in judged_pages(book, pages):
@@ -23,7 +23,7 @@ def judged_pages(book, pages):
     """The pages as tuples; BadPages if they are no ascending tuple of pages of the book that have rows."""
     if not is_tuple(pages):
         raise BadPages()
-    shown = _shown_pages(book)
+    shown = shown_pages(book)
     kept = [kept_page(page) for page in pages]
     if not all([page in shown for page in kept]):
         raise BadPages()
@@ -32,7 +32,7 @@ def judged_pages(book, pages):
     return tuple(kept)
 
 
-def _shown_pages(book):
+def shown_pages(book):
     """The pages of a book that have rows, in order."""
     return tuple([(leaf.label, side) for leaf in book for side in (0, 1) if leaf.side_rows(side)])
 
@@ -47,7 +47,7 @@ def ranges_true(book, pairs, pages):
 def told_pages(book, pairs):
     """The pages with rows that the pairs tell together."""
     ranges = [(kept_page(first), kept_page(last)) for first, last in pairs if _is_range(book, (first, last))]
-    return tuple([page for page in _shown_pages(book)
+    return tuple([page for page in shown_pages(book)
                   if any([begin <= page <= end for begin, end in ranges])])
 
 
