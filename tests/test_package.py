@@ -18,6 +18,13 @@ FUNCTIONS = {
     "printing": {"see_token": "text target word", "span_token": "first last", "entry_rows": "tokens form"},
     "ranges": {"preferred_ranges": "book pages", "ranges_true": "book pairs pages", "told_pages": "book pairs",
                "write_range": "pair", "read_range": "token"},
+    "lasting": {"lasting": "stages"},
+    "lists": {"contents_entries": "text places", "index_entry": "term book pages"},
+    "looker": {"place_word_true": "book own goal word near", "preferred_place": "book own goal near",
+               "preferred_token": "reading k item", "said_token": "reading k item", "is_plain": "text form book"},
+    "filling": {"set_book": "text told form"},
+    "rounds": {"next_round": "text form book"},
+    "settled": {"settled_books": "text form"},
 }
 CLASSES = {
     ("formats", "Format"): {"__init__": "width height near", "__eq__": None},
@@ -29,6 +36,10 @@ CLASSES = {
     ("books", "Book"): {"__init__": "leaves", "labels": "", "__contains__": None, "__getitem__": None, "__len__": None,
                         "__iter__": None, "__eq__": None, "pages": "", "facing": "page", "text_rows": "page",
                         "same_print": "other"},
+    ("reading", "Reading"): {"__init__": "text form book", "own": "k item", "term_pages": "word", "entry": "k item"},
+    ("looker", "Looker"): {"__init__": "form", "__call__": "text book"},
+    ("looker", "Verdict"): {"__init__": "fault", "__bool__": None},
+    ("rounds", "Rounds"): {"__init__": "text form first", "rests": "", "__iter__": None, "__len__": None},
 }
 
 
