@@ -16,7 +16,7 @@ def row_width(row):
 
 def set_lines(tokens, width):
     """The rows into which the tokens are cut."""
-    ends = _row_ends([token_width(token) for token in tokens], width)
+    ends = row_ends([token_width(token) for token in tokens], width)
     rows = []
     first = 0
     while first < len(tokens):
@@ -25,7 +25,7 @@ def set_lines(tokens, width):
     return tuple(rows)
 
 
-def _row_ends(widths, width):
+def row_ends(widths, width):
     """For each token the index behind the row that begins with it, were it the first token of all."""
     count = len(widths)
     costs = [0] * count
