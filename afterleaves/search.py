@@ -1,0 +1,238 @@
+"""The search for a successor of the least price.
+
+A way to a successor goes from page to page. It is told by its places, each a tuple (node, side, spot, count):
+the next page is a front (side 0) or a back, and spot and count are those of the row of labels. Of all ways
+the one whose price can become the least is always followed first; of ways that come to one place and know
+the same of what is behind them only the cheapest is followed.
+"""
+
+from heapq import heappop, heappush
+
+from afterleaves.bounds import NEVER, Bounds
+from afterleaves.labelrow import MOST_LEAVES
+from afterleaves.tracking import KEPT, Tracker
+
+
+class Step:
+    """A step of a way: where it leads, what is known there, and what it cost so far.
+
+    Pages are the tuples (first node, node behind, load) of the pages that it adds, and kept is the index of the
+    kept leaf that they are, or None for a new page.
+    """
+
+    def __init__(self, ahead, place, track, cost, leaves, pages, kept=None):
+        self.ahead = ahead
+        self.place = place
+        self.track = track
+        self.cost = cost
+        self.leaves = leaves
+        self.pages = pages
+        self.kept = kept
+
+
+class Search:
+    """Looks for successors that keep all leaves with the wanted indexes."""
+
+    def __init__(self, layout, listing, leaf, stroke, wanted):
+        self.layout = layout
+        self.listing = listing
+        self.leaf = leaf
+        self.tracker = Tracker(layout, listing, stroke)
+        self.bounds = Bounds(layout, listing, leaf, stroke, wanted)
+        self.wanted = wanted
+        self.apart = False
+        self._queue = []
+        self._best = {}
+        self._pushed = 0
+
+    def begin(self, apart):
+        """Begins a search; if ways stay apart, none is left out for another one."""
+        self.apart = apart
+        self._queue = []
+        self._best = {}
+        self._pushed = 0
+        track = self.tracker.start()
+        if self.layout.body == 0:
+            self.tracker.end_blocks(track)
+        self._push(Step(None, ((0, 0, 0), 0, 0, 0), track, 0, 0, ()))
+
+    def next_way(self):
+        """The last step of the next way to a successor, or None if there is no other one."""
+        while self._queue:
+            bound, rank, number, step = heappop(self._queue)
+            if not self.apart and self._best[self._key(step)] < step.cost:
+                continue
+            if self._is_end(step):
+                return step
+            for further in self._further(step):
+                self._push(further)
+        return None
+
+    def _key(self, step):
+        """What ways must agree in to be taken for one."""
+        node, side, spot, count = step.place
+        # How many leaves there are only matters where there could be too many of them in the end.
+        near = step.leaves + self.bounds.most(node, side) > MOST_LEAVES
+        return (*step.place, step.leaves if near else 0, *step.track.known())
+
+    def _push(self, step):
+        """Puts a step into the queue, unless it leads to no successor or a cheaper one leads to the same."""
+        node, side, spot, count = step.place
+        if step.leaves + self.bounds.fewest(node, side) > MOST_LEAVES:
+            return
+        bound = step.cost + self.bounds.least(node, side, spot, step.track)
+        if bound >= NEVER:
+            return
+        if not self.apart:
+            key = self._key(step)
+            if key in self._best and self._best[key] <= step.cost:
+                return
+            self._best[key] = step.cost
+        self._pushed = self._pushed + 1
+        # Of ways that are equally good the one that is furthest goes first.
+        rank = -1000 * node[0] - 2 * node[2] - side
+        heappush(self._queue, (bound, rank, -self._pushed, step))
+
+    def _is_end(self, step):
+        node, side, spot, count = step.place
+        return node[0] == self.listing.end and side == 0
+
+    def _further(self, step):
+        """All steps behind a step."""
+        if step.place[1] == 1:
+            return self._backs(step)
+        return self._kept(step) + self._fronts(step)
+
+    def _new_pages(self, step):
+        """The pairs of node and load of the new pages that can come; a page of a list has no load."""
+        node, side, spot, count = step.place
+        if node[0] < self.layout.body:
+            return self.layout.pages_from(node) if side == 0 or self.layout.may_begin(node, False) else []
+        if node[0] == self.listing.end or (side == 1 and self.listing.must_begin(node[0])):
+            return []
+        rows = [self._entry_rows(unit, step.track) for unit in range(node[0], self.listing.end)]
+        return [((unit, 0, 0), None) for unit in self.bounds.list_pages(node[0], rows)]
+
+    def _entry_rows(self, unit, track):
+        """The rows of a new entry."""
+        if unit < self.listing.index:
+            head = self.listing.heads[unit - self.listing.contents]
+            if head in self.tracker.heads:
+                return track.heads[self.tracker.heads.index(head)]
+        elif unit - self.listing.index in self.tracker.terms:
+            return track.terms[self.tracker.terms.index(unit - self.listing.index)]
+        return self.listing.least[unit - self.listing.contents]
+
+    def _paged(self, track, page, load, after):
+        """The pair of track and price behind a page up to a node; None if it may not come."""
+        if load is None:
+            track = emptied(track)
+            return (track, 0) if self.tracker.note_page(track, page, 0) else None
+        paged = self.tracker.paged(track, page, load)
+        if paged is not None and after[0] == self.layout.body:
+            self.tracker.end_blocks(paged[0])
+        return paged
+
+    def _backs(self, step):
+        """The steps behind a new front."""
+        node, side, spot, count = step.place
+        page = (self.layout.row.last_label(spot, count), 1)
+        steps = [Step(step, (node, 0, spot, count), emptied(step.track), step.cost, step.leaves, ((node, node, None),))]
+        for after, load in self._new_pages(step):
+            paged = self._paged(step.track, page, load, after)
+            if paged is not None:
+                cost = step.cost + paged[1]
+                steps.append(Step(step, (after, 0, spot, count), paged[0], cost, step.leaves, ((node, after, load),)))
+        return [further for further in steps if self._may_be(further)]
+
+    def _fronts(self, step):
+        """The steps to the front of a new leaf."""
+        node, side, spot, count = step.place
+        row = self.layout.row
+        options = [(row.chained(spot, count + 1), spot, count + 1)]
+        if count == 0 and spot < len(row.told) and spot not in self.wanted:
+            options.append((row.told[spot], spot + 1, 0))
+        steps = []
+        for label, further, number in options:
+            track = step.track.copied()
+            if label is None or not self.tracker.note_label(track, row.last_label(spot, count), label):
+                continue
+            self.tracker.drop(track, further)
+            for after, load in self._new_pages(step):
+                paged = self._paged(track, (label, 0), load, after)
+                if paged is not None:
+                    cost = step.cost + self.leaf + paged[1]
+                    place = (after, 1, further, number)
+                    steps.append(Step(step, place, paged[0], cost, step.leaves + 1, ((node, after, load),)))
+        return steps
+
+    def _kept(self, step):
+        """The steps over a kept leaf."""
+        node, side, spot, count = step.place
+        steps = []
+        if node[0] >= self.layout.body:
+            for fit, wrong in self.bounds.list_fits(node[0], spot, step.track.wrongs, step.track.alive):
+                if count == 0 or fit.j == spot:
+                    steps.append(self._kept_entries(step, fit, wrong))
+        else:
+            for j in range(spot, len(self.layout.papers) if count == 0 else min(spot + 1, len(self.layout.papers))):
+                if not self.bounds.may_pass(spot, j):
+                    break
+                steps.extend([self._kept_blocks(step, j, fit) for fit in self.layout.fits(j, node)])
+        return [further for further in steps if further is not None and self._may_be(further)]
+
+    def _kept_blocks(self, step, j, fit):
+        """The step over an old leaf of blocks; None if it may not come."""
+        track = self._labelled(step, j, step.track.copied())
+        label = self.layout.row.told[j]
+        front = None if track is None else self._paged(track, (label, 0), fit.front, fit.middle)
+        if front is None:
+            return None
+        back = (emptied(front[0]), 0)
+        if self.layout.papers[j].rows[1]:
+            back = self._paged(front[0], (label, 1), fit.back, fit.after)
+        if back is None:
+            return None
+        pages = ((step.place[0], fit.middle, fit.front), (fit.middle, fit.after, fit.back))
+        return Step(step, (fit.after, 0, j + 1, 0), back[0], step.cost + front[1] + back[1], step.leaves + 1, pages, j)
+
+    def _kept_entries(self, step, fit, wrong):
+        """The step over an old leaf of a list, on which so many tokens are wrong; None if it may not come."""
+        track = emptied(step.track)
+        track.alive = tuple([KEPT if other == fit else state for other, state in zip(self.listing.index_fits, track.alive)])
+        track = self._labelled(step, fit.j, track)
+        if track is None:
+            return None
+        for side in (0, 1):
+            page = (self.layout.row.told[fit.j], side)
+            if self.layout.papers[fit.j].rows[side] and not self.tracker.note_page(track, page, 0):
+                return None
+        cost = step.cost + (wrong * self.tracker.stroke if wrong else 0)
+        place = ((fit.after, 0, 0), 0, fit.j + 1, 0)
+        middle = (fit.middle, 0, 0)
+        return Step(step, place, track, cost, step.leaves + 1, ((step.place[0], middle, None), (middle, place[0], None)), fit.j)
+
+    def _labelled(self, step, j, track):
+        """The track with the label of a leaf that is kept behind a step; None if it may not come."""
+        node, side, spot, count = step.place
+        row = self.layout.row
+        if not self.tracker.note_label(track, row.last_label(spot, count), row.told[j]):
+            return None
+        self.tracker.drop(track, j + 1)
+        return track
+
+    def _may_be(self, step):
+        """Whether a step does not end a way at a place where it may not end."""
+        if not self._is_end(step):
+            return True
+        node, side, spot, count = step.place
+        if count > 0 and spot < len(self.layout.papers):
+            return False
+        return self.tracker.note_label(step.track, self.layout.row.last_label(spot, count), None)
+
+
+def emptied(track):
+    """A track behind a page on which no pointer stands."""
+    track = track.copied()
+    track.near = ()
+    return track
