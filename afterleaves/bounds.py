@@ -82,31 +82,36 @@ class Bounds:
         blocks = self._most[(node, side)] if node[0] < self.layout.body else 0
         return blocks + self.listing.end - max(node[0], self.layout.body)
 
-    def least(self, node, side, spot, track):
-        """The bound at a node ahead of a side, when the leaves from the spot on may be kept."""
+    def least(self, node, side, spot, track, rows):
+        """The bound at a node ahead of a side, when the leaves from the spot on may be kept.
+
+        Rows tells of each entry that is ahead how many rows it has at least.
+        """
         if node[0] < self.layout.body:
             blocks = self._nodes[(node, side)][spot]
-            return blocks + self._listed(self.listing.contents, 0, spot, track.wrongs, track.alive)
-        return self._listed(node[0], side, spot, track.wrongs, track.alive)
+            return blocks + self._listed(self.listing.contents, 0, spot, rows, track.wrongs, track.alive)
+        return self._listed(node[0], side, spot, rows, track.wrongs, track.alive)
 
-    def _listed(self, unit, side, spot, wrongs, alive):
+    def _listed(self, unit, side, spot, rows, wrongs, alive):
         """The bound for the lists from a unit on."""
-        place = (unit, side, spot, wrongs, alive)
+        place = (unit, side, spot, rows, wrongs, alive)
         if place not in self._lists:
-            self._lists[place] = self._count_listed(unit, side, spot, wrongs, alive)
+            self._lists[place] = self._count_listed(unit, side, spot, rows, wrongs, alive)
         return self._lists[place]
 
-    def _count_listed(self, unit, side, spot, wrongs, alive):
+    def _count_listed(self, unit, side, spot, rows, wrongs, alive):
         if unit == self.listing.end:
             return 0 if self.may_pass(spot, len(self.layout.papers)) else NEVER
-        pages = self.list_pages(unit, self.listing.least[unit - self.listing.contents:])
+        pages = self.list_pages(unit, rows)
         if side == 1:
-            backs = [self._listed(after, 0, spot, wrongs, alive) for after in pages if not self.listing.must_begin(unit)]
-            return min(backs + [self._listed(unit, 0, spot, wrongs, alive)])
-        bounds = [self.leaf + self._listed(after, 1, spot, wrongs, alive) for after in pages]
+            bound = self._listed(unit, 0, spot, rows, wrongs, alive)
+            if self.listing.must_begin(unit):
+                return bound
+            return min([bound] + [self._listed(after, 0, spot, rows[after - unit:], wrongs, alive) for after in pages])
+        bounds = [self.leaf + self._listed(after, 1, spot, rows[after - unit:], wrongs, alive) for after in pages]
         for fit, wrong in self.list_fits(unit, spot, wrongs, alive):
             price = 0 if wrong == 0 else wrong * self.stroke
-            bounds.append(price + self._listed(fit.after, 0, fit.j + 1, wrongs, alive))
+            bounds.append(price + self._listed(fit.after, 0, fit.j + 1, rows[fit.after - unit:], wrongs, alive))
         return min(bounds + [NEVER])
 
     def list_pages(self, unit, rows):

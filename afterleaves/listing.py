@@ -108,17 +108,21 @@ class Listing:
         if unit < self.index:
             return min([self.head_rows(self.heads[unit - self.contents], width) for width in self.layout.widths])
         bit = unit - self.index
-        widths = [1, token_width(self.layout.terms[bit])]
-        if any([mask >> bit & 1 for shapes in self.layout.masks for masks in shapes for mask in masks]):
-            widths.append(min(self.layout.widths))
-        rows = 1
-        used = -1
-        for width in widths:
-            used = used + 1 + width
-            if used > self.layout.form.width:
-                rows = rows + 1
-                used = width
-        return rows
+        stands = any([mask >> bit & 1 for shapes in self.layout.masks for masks in shapes for mask in masks])
+        return self.term_least(bit, (min(self.layout.widths),) if stands else ())
+
+    def term_least(self, bit, widths):
+        """No more than the rows of the entry of a term that has ranges of these widths, and perhaps more."""
+        if (bit, widths) not in self._rows:
+            rows = 1
+            used = -1
+            for width in (1, token_width(self.layout.terms[bit]), *widths):
+                used = used + 1 + width
+                if used > self.layout.form.width:
+                    rows = rows + 1
+                    used = width
+            self._rows[(bit, widths)] = rows
+        return self._rows[(bit, widths)]
 
     def _leaf_fits(self, j):
         """All ways in which an old leaf fits as a leaf of a list."""

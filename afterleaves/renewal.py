@@ -1,5 +1,6 @@
 """Renewals: the successors of a book that cost the least."""
 
+from afterleaves.bounds import NEVER
 from afterleaves.books import Book
 from afterleaves.errors import NoBook, TooMany
 from afterleaves.layout import Layout
@@ -64,14 +65,34 @@ def judge_sizes(old, text):
 
 def cheapest(search):
     """The book of the best way that a search finds, or None."""
-    search.begin(False)
+    search.begin(False, True, NEVER)
     way = search.next_way()
+    if search.reached is None:
+        return None
+    if search.tracker.terms and (way is None or way.cost > search.reached):
+        search.begin(False, False, NEVER if way is None else way.cost)
+        way = search.next_way() or way
+    return _book_or_other(search, way)
+
+
+def any_book(search):
+    """The book of some way that a search finds, or None if there is none."""
+    search.begin(False, True, NEVER)
+    way = search.next_way()
+    if way is None and search.reached is not None and search.tracker.terms:
+        search.begin(False, False, NEVER)
+        way = search.next_way()
+    return _book_or_other(search, way)
+
+
+def _book_or_other(search, way):
+    """The book of a way; of another one if the way leads to no successor after all."""
     book = None if way is None else made_book(search.layout, way)
     if way is None or book is not None:
         return book
-    # A leaf that was to be new has the print of an old leaf, which says something else: the way leads to no
-    # successor, and others may have been left out for it.
-    search.begin(True)
+    # A leaf that was to be new has the print of an old leaf that says something else; and others may have been
+    # left out for this way.
+    search.begin(True, False, NEVER)
     while book is None:
         way = search.next_way()
         if way is None:

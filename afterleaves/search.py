@@ -4,6 +4,10 @@ A way to a successor goes from page to page. It is told by its places, each a tu
 the next page is a front (side 0) or a back, and spot and count are those of the row of labels. Of all ways
 the one whose price can become the least is always followed first; of ways that come to one place and know
 the same of what is behind them only the cheapest is followed.
+
+Where the terms of the index stand makes for very many ways that differ in nothing but the length of its
+entries, and seldom matters. So ways are first taken for one without a look at that (a rough search); whether
+the way found is the cheapest one of all is seen by comparing it with the bound for the lists at best.
 """
 
 from heapq import heappop, heappush
@@ -40,14 +44,18 @@ class Search:
         self.tracker = Tracker(layout, listing, stroke)
         self.bounds = Bounds(layout, listing, leaf, stroke, wanted)
         self.wanted = wanted
-        self.apart = False
-        self._queue = []
-        self._best = {}
-        self._pushed = 0
+        self.begin(False, False, NEVER)
 
-    def begin(self, apart):
-        """Begins a search; if ways stay apart, none is left out for another one."""
+    def begin(self, apart, rough, limit):
+        """Begins a search for ways that cost less than the limit.
+
+        If ways stay apart, none is left out for another one. Reached is then the bound at the first place
+        behind all blocks that is come to.
+        """
         self.apart = apart
+        self.rough = rough
+        self.limit = limit
+        self.reached = None
         self._queue = []
         self._best = {}
         self._pushed = 0
@@ -62,6 +70,8 @@ class Search:
             bound, rank, number, step = heappop(self._queue)
             if not self.apart and self._best[self._key(step)] < step.cost:
                 continue
+            if step.place[0][0] >= self.layout.body and self.reached is None:
+                self.reached = bound
             if self._is_end(step):
                 return step
             for further in self._further(step):
@@ -73,15 +83,17 @@ class Search:
         node, side, spot, count = step.place
         # How many leaves there are only matters where there could be too many of them in the end.
         near = step.leaves + self.bounds.most(node, side) > MOST_LEAVES
-        return (*step.place, step.leaves if near else 0, *step.track.known())
+        known = step.track.known(not self.rough or node[0] >= self.layout.body)
+        return (*step.place, step.leaves if near else 0, *known)
 
     def _push(self, step):
         """Puts a step into the queue, unless it leads to no successor or a cheaper one leads to the same."""
         node, side, spot, count = step.place
         if step.leaves + self.bounds.fewest(node, side) > MOST_LEAVES:
             return
-        bound = step.cost + self.bounds.least(node, side, spot, step.track)
-        if bound >= NEVER:
+        rows = tuple([self._least_rows(unit, step) for unit in range(max(node[0], self.layout.body), self.listing.end)])
+        bound = step.cost + self.bounds.least(node, side, spot, step.track, rows)
+        if bound >= self.limit:
             return
         if not self.apart:
             key = self._key(step)
@@ -114,7 +126,7 @@ class Search:
         return [((unit, 0, 0), None) for unit in self.bounds.list_pages(node[0], rows)]
 
     def _entry_rows(self, unit, track):
-        """The rows of a new entry."""
+        """The rows of a new entry, when all blocks are behind."""
         if unit < self.listing.index:
             head = self.listing.heads[unit - self.listing.contents]
             if head in self.tracker.heads:
@@ -122,6 +134,16 @@ class Search:
         elif unit - self.listing.index in self.tracker.terms:
             return track.terms[self.tracker.terms.index(unit - self.listing.index)]
         return self.listing.least[unit - self.listing.contents]
+
+    def _least_rows(self, unit, step):
+        """No more than the rows that a new entry will have."""
+        least = self.listing.least[unit - self.listing.contents]
+        if step.place[0][0] >= self.layout.body or unit < self.listing.index:
+            return max(least, self._entry_rows(unit, step.track))
+        bit = unit - self.listing.index
+        if self.rough or bit not in self.tracker.terms:
+            return least
+        return max(least, self.listing.term_least(bit, step.track.terms[self.tracker.terms.index(bit)][0]))
 
     def _paged(self, track, page, load, after):
         """The pair of track and price behind a page up to a node; None if it may not come."""

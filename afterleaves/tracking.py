@@ -36,13 +36,13 @@ class Track:
         self.wrongs = wrongs
         self.alive = alive
 
-    def known(self):
-        """All of it as one tuple."""
-        return (self.points, self.near, self.paras, self.heads, self.terms, self.wrongs, self.alive)
+    def known(self, whole):
+        """All of it as one tuple; without the terms if it shall not be whole."""
+        return (self.points, self.near, self.paras, self.heads, self.terms if whole else (), self.wrongs, self.alive)
 
     def copied(self):
         """Another track that is alike so far."""
-        return Track(*self.known())
+        return Track(*self.known(True))
 
 
 class Tracker:
