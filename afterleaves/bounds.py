@@ -88,8 +88,10 @@ class Bounds:
         Rows tells of each entry that is ahead how many rows it has at least.
         """
         if node[0] < self.layout.body:
-            blocks = self._nodes[(node, side)][spot]
-            return blocks + self._listed(self.listing.contents, 0, spot, rows, track.wrongs, track.alive)
+            # Leaves that must be kept may be kept for blocks, and the lists then begin behind them.
+            spots = [spot] + [j + 1 for j in self.wanted if j >= spot]
+            return self._nodes[(node, side)][spot] + min([
+                self._listed(self.listing.contents, 0, begin, rows, track.wrongs, track.alive) for begin in spots])
         return self._listed(node[0], side, spot, rows, track.wrongs, track.alive)
 
     def _listed(self, unit, side, spot, rows, wrongs, alive):

@@ -51,6 +51,9 @@ def must_go(old, text, form):
     """The labels of the leaves that no successor keeps."""
     judge_sizes(old, text)
     stayers = Stayers(old, text, form)
+    # Without this, that there is no successor would be found out for each leaf again.
+    if not stayers.can_stay(()):
+        return old.labels
     return tuple([label for j, label in enumerate(old.labels) if not stayers.can_stay((j,))])
 
 
@@ -58,6 +61,8 @@ def quarrels(old, text, form):
     """The pairs of labels of leaves each of which can stay, but not together."""
     judge_sizes(old, text)
     stayers = Stayers(old, text, form)
+    if not stayers.can_stay(()):
+        return ()
     able = [j for j in range(len(old)) if stayers.can_stay((j,))]
     return tuple([(old.labels[one], old.labels[other]) for one in able for other in able
                   if one < other and not stayers.can_stay((one, other))])
