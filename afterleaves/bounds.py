@@ -1,6 +1,6 @@
 """The least price at which a way to a successor can go on, were all tokens true and of the best width."""
 
-from afterleaves.tracking import DEAD, OPEN
+from afterleaves.tracking import DEAD, LOST, OPEN
 
 NEVER = 10 ** 9
 
@@ -16,6 +16,7 @@ class Bounds:
         self.wanted = wanted
         self._lists = {}
         self._nodes = {}
+        self._bound = {}
         self._fewest = {}
         self._most = {}
         self._count()
@@ -31,6 +32,7 @@ class Bounds:
         rest = range(len(layout.papers) + 1)
         for side in (0, 1):
             self._nodes[(end, side)] = [0 for _ in rest]
+            self._bound[(end, side)] = [0 if self._in_list(spot) else NEVER for spot in rest]
             self._fewest[(end, side)] = 0
             self._most[(end, side)] = 0
         for node in self._nodes_from_the_end():
@@ -39,9 +41,11 @@ class Bounds:
             self._fewest[(node, 0)] = 1 + min([self._fewest[place] for place in fronts] + [NEVER])
             self._most[(node, 0)] = 1 + max([self._most[place] for place in fronts] + [0])
             self._nodes[(node, 0)] = self._front_row(node, fronts)
+            self._bound[(node, 0)] = self._bound_row(node, fronts)
             self._fewest[(node, 1)] = min([self._fewest[place] for place in backs])
             self._most[(node, 1)] = max([self._most[place] for place in backs])
             self._nodes[(node, 1)] = [min([self._nodes[place][spot] for place in backs]) for spot in rest]
+            self._bound[(node, 1)] = [min([self._bound[place][spot] for place in backs]) for spot in rest]
 
     def _nodes_from_the_end(self):
         """All nodes at which a page can begin, the last one first."""
@@ -66,6 +70,29 @@ class Bounds:
             row[spot] = bound
         return row
 
+    def _bound_row(self, node, fronts):
+        """The bounds at a node ahead of a front, for each spot that must be the next one to be kept."""
+        row = []
+        for spot in range(len(self.layout.papers) + 1):
+            bound = self.leaf + min([self._bound[place][spot] for place in fronts] + [NEVER])
+            if spot < len(self.layout.papers):
+                bound = min([bound] + [self._nodes[(fit.after, 0)][spot + 1] for fit in self.layout.fits(spot, node)])
+            row.append(bound)
+        return row
+
+    def _in_list(self, spot):
+        """Whether the leaf of the spot fits in a list; behind the last leaf nothing need be kept."""
+        fits = self.listing.contents_fits + self.listing.index_fits
+        return spot == len(self.layout.papers) or any([fit.j == spot for fit in fits])
+
+    def _still_in_list(self, unit, spot, track):
+        """Whether the leaf of the spot may still be kept in a list from the unit on."""
+        fits = list(zip(self.listing.contents_fits, track.wrongs)) + list(zip(self.listing.index_fits, track.alive))
+        # DEAD and LOST are told apart from what may be by being no number of wrong tokens, and not OPEN.
+        return spot == len(self.layout.papers) or any([
+            fit.j == spot and fit.first >= unit and state not in (DEAD, LOST if fit.first >= self.listing.index else DEAD)
+            for fit, state in fits])
+
     def fewest(self, node, side):
         """No more than the leaves that are needed from a node on."""
         if node[0] < self.layout.body:
@@ -82,16 +109,17 @@ class Bounds:
         blocks = self._most[(node, side)] if node[0] < self.layout.body else 0
         return blocks + self.listing.end - max(node[0], self.layout.body)
 
-    def least(self, node, side, spot, track, rows):
-        """The bound at a node ahead of a side, when the leaves from the spot on may be kept.
-
-        Rows tells of each entry that is ahead how many rows it has at least.
-        """
+    def least(self, place, track, rows):
+        """The bound at a place; rows tells of each entry that is ahead how many rows it has at least."""
+        node, side, spot, count = place
         if node[0] < self.layout.body:
             # Leaves that must be kept may be kept for blocks, and the lists then begin behind them.
             spots = [spot] + [j + 1 for j in self.wanted if j >= spot]
-            return self._nodes[(node, side)][spot] + min([
+            table = self._bound if count > 0 else self._nodes
+            return table[(node, side)][spot] + min([
                 self._listed(self.listing.contents, 0, begin, rows, track.wrongs, track.alive) for begin in spots])
+        if count > 0 and not self._still_in_list(node[0], spot, track):
+            return NEVER
         return self._listed(node[0], side, spot, rows, track.wrongs, track.alive)
 
     def _listed(self, unit, side, spot, rows, wrongs, alive):

@@ -92,7 +92,7 @@ class Search:
         if step.leaves + self.bounds.fewest(node, side) > MOST_LEAVES:
             return
         rows = tuple([self._least_rows(unit, step) for unit in range(max(node[0], self.layout.body), self.listing.end)])
-        bound = step.cost + self.bounds.least(node, side, spot, step.track, rows)
+        bound = step.cost + self.bounds.least(step.place, step.track, rows)
         if bound >= self.limit:
             return
         if not self.apart:
