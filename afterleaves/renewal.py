@@ -67,9 +67,7 @@ def cheapest(search):
     """The book of the best way that a search finds, or None."""
     search.begin(False, True, NEVER)
     way = search.next_way()
-    if search.reached is None:
-        return None
-    if search.tracker.terms and (way is None or way.cost > search.reached):
+    if search.cramped or search.barred:
         search.begin(False, False, NEVER if way is None else way.cost)
         way = search.next_way() or way
     return _book_or_other(search, way)
@@ -79,7 +77,7 @@ def any_book(search):
     """The book of some way that a search finds, or None if there is none."""
     search.begin(False, True, NEVER)
     way = search.next_way()
-    if way is None and search.reached is not None and search.tracker.terms:
+    if way is None and search.barred:
         search.begin(False, False, NEVER)
         way = search.next_way()
     return _book_or_other(search, way)

@@ -6,8 +6,8 @@ the one whose price can become the least is always followed first; of ways that 
 the same of what is behind them only the cheapest is followed.
 
 Where the terms of the index stand makes for very many ways that differ in nothing but the length of its
-entries, and seldom matters. So ways are first taken for one without a look at that (a rough search); whether
-the way found is the cheapest one of all is seen by comparing it with the bound for the lists at best.
+entries, and seldom matters. So ways are first taken for one without a look at that (a rough search). What it
+finds holds for all ways if no entry turned out longer than it had to be where that made a difference.
 """
 
 from heapq import heappop, heappush
@@ -49,13 +49,14 @@ class Search:
     def begin(self, apart, rough, limit):
         """Begins a search for ways that cost less than the limit.
 
-        If ways stay apart, none is left out for another one. Reached is then the bound at the first place
-        behind all blocks that is come to.
+        If ways stay apart, none is left out for another one. Cramped tells whether the length of entries made
+        any difference so far, and barred whether it ended a way.
         """
         self.apart = apart
         self.rough = rough
         self.limit = limit
-        self.reached = None
+        self.cramped = False
+        self.barred = False
         self._queue = []
         self._best = {}
         self._pushed = 0
@@ -70,8 +71,6 @@ class Search:
             bound, rank, number, step = heappop(self._queue)
             if not self.apart and self._best[self._key(step)] < step.cost:
                 continue
-            if step.place[0][0] >= self.layout.body and self.reached is None:
-                self.reached = bound
             if self._is_end(step):
                 return step
             for further in self._further(step):
@@ -90,8 +89,10 @@ class Search:
         """Puts a step into the queue, unless it leads to no successor or a cheaper one leads to the same."""
         node, side, spot, count = step.place
         if step.leaves + self.bounds.fewest(node, side) > MOST_LEAVES:
+            self.barred = self.barred or node[0] >= self.layout.body
             return
         rows = tuple([self._least_rows(unit, step) for unit in range(max(node[0], self.layout.body), self.listing.end)])
+        self._compare(node[0], rows)
         bound = step.cost + self.bounds.least(step.place, step.track, rows)
         if bound >= self.limit:
             return
@@ -104,6 +105,18 @@ class Search:
         # Of ways that are equally good the one that is furthest goes first.
         rank = -1000 * node[0] - 2 * node[2] - side
         heappush(self._queue, (bound, rank, -self._pushed, step))
+
+    def _compare(self, unit, rows):
+        """Notes whether the length of the entries from a unit on, behind all blocks, makes a difference."""
+        if unit < self.layout.body or self.cramped and self.barred:
+            return
+        height = self.layout.form.height
+        for first in range(unit, self.listing.end):
+            least = self.listing.least[first - self.listing.contents:]
+            if self.bounds.list_pages(first, rows[first - unit:]) != self.bounds.list_pages(first, least):
+                self.cramped = True
+        if any([count > height for count in rows]):
+            self.barred = True
 
     def _is_end(self, step):
         node, side, spot, count = step.place
