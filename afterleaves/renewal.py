@@ -67,7 +67,7 @@ def cheapest(search):
     """The book of the best way that a search finds, or None."""
     search.begin(False, True, NEVER)
     way = search.next_way()
-    if search.cramped or search.barred:
+    if search.barred if way is None else search.cramped and way.cost > search.reached:
         search.begin(False, False, NEVER if way is None else way.cost)
         way = search.next_way() or way
     return _book_or_other(search, way)

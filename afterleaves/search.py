@@ -7,7 +7,7 @@ the same of what is behind them only the cheapest is followed.
 
 Where the terms of the index stand makes for very many ways that differ in nothing but the length of its
 entries, and seldom matters. So ways are first taken for one without a look at that (a rough search). What it
-finds holds for all ways if no entry turned out longer than it had to be where that made a difference.
+finds holds for all ways unless an entry turned out longer than it had to be where that made a difference.
 """
 
 from heapq import heappop, heappush
@@ -49,12 +49,14 @@ class Search:
     def begin(self, apart, rough, limit):
         """Begins a search for ways that cost less than the limit.
 
-        If ways stay apart, none is left out for another one. Cramped tells whether the length of entries made
-        any difference so far, and barred whether it ended a way.
+        If ways stay apart, none is left out for another one. Reached is then the least bound of a place behind
+        all blocks, were all entries short; cramped tells whether the length of entries made any difference so
+        far, and barred whether it may have ended a way.
         """
         self.apart = apart
         self.rough = rough
         self.limit = limit
+        self.reached = NEVER
         self.cramped = False
         self.barred = False
         self._queue = []
@@ -89,11 +91,12 @@ class Search:
         """Puts a step into the queue, unless it leads to no successor or a cheaper one leads to the same."""
         node, side, spot, count = step.place
         if step.leaves + self.bounds.fewest(node, side) > MOST_LEAVES:
-            self.barred = self.barred or node[0] >= self.layout.body
+            self.barred = self.barred or node[0] > self.listing.index
             return
         rows = tuple([self._least_rows(unit, step) for unit in range(max(node[0], self.layout.body), self.listing.end)])
-        self._compare(node[0], rows)
         bound = step.cost + self.bounds.least(step.place, step.track, rows)
+        if node[0] >= self.layout.body:
+            self._compare(step, rows, bound)
         if bound >= self.limit:
             return
         if not self.apart:
@@ -106,17 +109,18 @@ class Search:
         rank = -1000 * node[0] - 2 * node[2] - side
         heappush(self._queue, (bound, rank, -self._pushed, step))
 
-    def _compare(self, unit, rows):
-        """Notes whether the length of the entries from a unit on, behind all blocks, makes a difference."""
-        if unit < self.layout.body or self.cramped and self.barred:
-            return
-        height = self.layout.form.height
+    def _compare(self, step, rows, bound):
+        """Notes whether the length of the entries that are ahead, behind all blocks, makes a difference."""
+        unit = step.place[0][0]
+        least = tuple(self.listing.least[unit - self.listing.contents:])
+        short = step.cost + self.bounds.least(step.place, step.track, least)
+        self.reached = min(self.reached, short)
+        self.barred = self.barred or short < NEVER <= bound
         for first in range(unit, self.listing.end):
-            least = self.listing.least[first - self.listing.contents:]
-            if self.bounds.list_pages(first, rows[first - unit:]) != self.bounds.list_pages(first, least):
-                self.cramped = True
-        if any([count > height for count in rows]):
-            self.barred = True
+            if self.cramped:
+                break
+            spot = first - unit
+            self.cramped = self.bounds.list_pages(first, rows[spot:]) != self.bounds.list_pages(first, least[spot:])
 
     def _is_end(self, step):
         node, side, spot, count = step.place
@@ -190,6 +194,9 @@ class Search:
         steps = []
         for label, further, number in options:
             track = step.track.copied()
+            # With shorter entries the leaves of the index that are behind might have been enough.
+            if label is None and node[0] > self.listing.index:
+                self.barred = True
             if label is None or not self.tracker.note_label(track, row.last_label(spot, count), label):
                 continue
             self.tracker.drop(track, further)
