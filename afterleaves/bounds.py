@@ -1,8 +1,8 @@
 """The least price at which a way to a successor can go on, were all tokens true and of the best width."""
 
-from afterleaves.tracking import DEAD, LOST, OPEN
+from afterleaves.tracking import DEAD, OPEN
 
-NEVER = 10 ** 9
+NEVER = 1000000000
 
 
 class Bounds:
@@ -52,7 +52,7 @@ class Bounds:
         nodes = []
         for unit in reversed(range(self.layout.body)):
             for number, shape in enumerate(self.layout.shapes[unit]):
-                nodes.extend([(unit, number, row) for row in reversed(range(1, len(shape.rows))) if shape.ends[row - 1]])
+                nodes.extend([(unit, number, row) for row in range(len(shape.rows) - 1, 0, -1) if shape.ends[row - 1]])
             nodes.append((unit, 0, 0))
         return nodes
 
@@ -87,13 +87,11 @@ class Bounds:
 
     def _still_in_list(self, unit, spot, track):
         """Whether the leaf of the spot may still be kept in a list from the unit on."""
-        fits = list(zip(self.listing.contents_fits, track.wrongs)) + list(zip(self.listing.index_fits, track.alive))
-        # DEAD and LOST are told apart from what may be by being no number of wrong tokens, and not OPEN.
-        return spot == len(self.layout.papers) or any([
-            fit.j == spot and fit.first >= unit and state not in (DEAD, LOST if fit.first >= self.listing.index else DEAD)
-            for fit, state in fits])
+        fits = [fit for fit, wrong in zip(self.listing.contents_fits, track.wrongs) if wrong != DEAD]
+        fits.extend([fit for fit, state in zip(self.listing.index_fits, track.alive) if state == OPEN])
+        return spot == len(self.layout.papers) or any([fit.j == spot and fit.first >= unit for fit in fits])
 
-    def fewest(self, node, side):
+    def fewest_leaves(self, node, side):
         """No more than the leaves that are needed from a node on."""
         if node[0] < self.layout.body:
             return self._fewest[(node, side)] + self._fewest_lists(self.listing.contents)
@@ -101,15 +99,15 @@ class Bounds:
 
     def _fewest_lists(self, unit):
         """No more than the leaves that the lists need from a unit on; an entry that has begun a list is not counted."""
-        return sum([1 for first, last in ((self.listing.contents, self.listing.index), (self.listing.index, self.listing.end))
-                    if unit <= first < last])
+        lists = ((self.listing.contents, self.listing.index), (self.listing.index, self.listing.end))
+        return len([first for first, last in lists if unit <= first < last])
 
-    def most(self, node, side):
+    def most_leaves(self, node, side):
         """No fewer than the leaves that can come from a node on."""
         blocks = self._most[(node, side)] if node[0] < self.layout.body else 0
         return blocks + self.listing.end - max(node[0], self.layout.body)
 
-    def least(self, place, track, rows):
+    def bound_at(self, place, track, rows):
         """The bound at a place; rows tells of each entry that is ahead how many rows it has at least."""
         node, side, spot, count = place
         if node[0] < self.layout.body:
@@ -145,7 +143,7 @@ class Bounds:
         return min(bounds + [NEVER])
 
     def list_pages(self, unit, rows):
-        """The units behind all new pages that begin at a unit of a list; rows tells those of it and of each further one."""
+        """The units behind all new pages that begin at a unit of a list; rows are those of this and each further unit."""
         last = self.listing.index if unit < self.listing.index else self.listing.end
         found = []
         used = 0

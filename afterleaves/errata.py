@@ -132,9 +132,10 @@ def needed(old, new):
 
 
 def differences(leaf, other):
-    """The tuples (side, row, word, token, token of the other one) where two leaves of one print say different tokens."""
+    """The tuples (side, row, word, token, other token) where two leaves of one print say different tokens."""
     found = []
     for side in (0, 1):
         for row, (said, others) in enumerate(zip(leaf.said_rows(side), other.said_rows(side))):
-            found.extend([(side, row, word, one, two) for word, (one, two) in enumerate(zip(said, others)) if one != two])
+            found.extend([(side, row, word, one, two)
+                          for word, (one, two) in enumerate(zip(said, others)) if one != two])
     return found

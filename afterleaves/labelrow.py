@@ -1,9 +1,8 @@
 """The labels that new leaves of a successor can bear."""
 
+from afterleaves.books import MOST_LEAVES
 from afterleaves.errors import NoRoom
 from afterleaves.labels import between, write_label
-
-MOST_LEAVES = 60
 
 
 class LabelRow:

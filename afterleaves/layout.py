@@ -91,7 +91,7 @@ class Layout:
                 continue
             for place in self.choosing(first):
                 shape = self.shapes[place[0]][place[1]]
-                height = used + shape.heights[place[2]]
+                height = used + shape.tall[place[2]]
                 if height > self.form.height:
                     continue
                 owns = tuple([(self.point_at(place[0], item), None, None) for item, word in shape.owns[place[2]]])
@@ -135,23 +135,22 @@ class Layout:
         if not paper.fits(self.form.height):
             return []
         found = []
-        for middle, front in self._side_fits(paper, 0, node):
-            for after, back in self._side_fits(paper, 1, middle):
-                places = {place: True for held in (front, back) for place in held[3]}
-                if not paper.spoilt_at(places):
-                    found.append(Fit(middle, after, self.load(*front[:3]), self.load(*back[:3])))
+        for middle, front, first_places in self._side_fits(paper, 0, node):
+            for after, back, last_places in self._side_fits(paper, 1, middle):
+                if not paper.spoilt_at({place: True for place in first_places + last_places}):
+                    found.append(Fit(middle, after, self.load(*front), self.load(*back)))
         return found
 
     def _side_fits(self, paper, side, node):
-        """The pairs of node behind and what is held, for all ways in which a side fits behind a node."""
-        partly = [(node, True, (), ((), (), 0, ()))]
+        """For all ways in which a side fits behind a node the node behind, what is held, and the places of pointers."""
+        partly = [(node, True, (), ((), (), 0), ())]
         for spot in range(len(paper.rows[side])):
             partly = [further for part in partly for further in self._row_fits(paper, side, spot, part)]
-        return [(place, held) for place, end, feet, held in partly if end and feet == paper.feet[side]]
+        return [(place, held, places) for place, end, feet, held, places in partly if end and feet == paper.feet[side]]
 
     def _row_fits(self, paper, side, spot, part):
         """The ways in which the next row of a side fits behind a part of it."""
-        node, end, feet, held = part
+        node, end, feet, held, places = part
         found = []
         if not self.may_begin(node, side == 0 and spot == 0):
             return found
@@ -159,9 +158,9 @@ class Layout:
             shape = self.shapes[place[0]][place[1]]
             owns = self._row_owns(paper, side, spot, place)
             if owns is not None:
-                places = tuple([(side, spot, word) for item, word in shape.owns[place[2]]])
-                further = (*self._held(held[:3], place, owns), held[3] + places)
-                found.append((self.node_behind(place), shape.ends[place[2]], feet + shape.feet[place[2]], further))
+                pointers = tuple([(side, spot, word) for item, word in shape.owns[place[2]]])
+                found.append((self.node_behind(place), shape.ends[place[2]], feet + shape.feet[place[2]],
+                              self._held(held, place, owns), places + pointers))
         return found
 
     def _row_owns(self, paper, side, spot, place):
@@ -184,5 +183,5 @@ class Layout:
 
     def _has_widths(self, shape, owns):
         """Whether tokens of these widths can stand in the shape."""
-        widths = [(self.points[p].spot, token_width(printed)) for p, printed, said in owns]
+        widths = [(self.points[p].turn, token_width(printed)) for p, printed, said in owns]
         return any([all([vector[spot] == width for spot, width in widths]) for vector in shape.vectors])

@@ -62,6 +62,7 @@ class Listing:
         self.index = layout.body + len(self.heads)
         self.end = self.index + len(layout.terms)
         self._rows = {}
+        self._leasts = {}
         self.least = [self._least_rows(unit) for unit in range(self.contents, self.end)]
         fits = [fit for j in range(len(layout.papers)) for fit in self._leaf_fits(j)]
         self.contents_fits = [fit for fit in fits if fit.first < self.index]
@@ -113,7 +114,7 @@ class Listing:
 
     def term_least(self, bit, widths):
         """No more than the rows of the entry of a term that has ranges of these widths, and perhaps more."""
-        if (bit, widths) not in self._rows:
+        if (bit, widths) not in self._leasts:
             rows = 1
             used = -1
             for width in (1, token_width(self.layout.terms[bit]), *widths):
@@ -121,8 +122,8 @@ class Listing:
                 if used > self.layout.form.width:
                     rows = rows + 1
                     used = width
-            self._rows[(bit, widths)] = rows
-        return self._rows[(bit, widths)]
+            self._leasts[(bit, widths)] = rows
+        return self._leasts[(bit, widths)]
 
     def _leaf_fits(self, j):
         """All ways in which an old leaf fits as a leaf of a list."""

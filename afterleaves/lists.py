@@ -21,4 +21,5 @@ def contents_entries(text, places):
 
 def index_entry(term, book, pages):
     """The tokens of an entry of the index, for the pages on which the term stands."""
-    return (INDEX_SIGN, term, *[write_range(pair) for pair in preferred_ranges(book, pages)])
+    ranges = [write_range(pair) for pair in preferred_ranges(book, pages)]
+    return (INDEX_SIGN, term, *ranges)

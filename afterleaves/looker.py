@@ -95,7 +95,7 @@ def true_tokens(reading, k, item):
     targets = text.targets(k, item)
     goals = [reading.places[target] for target in targets]
     if len(goals) == 2:
-        return (span_token(*goals),)
+        return (span_token(goals[0], goals[1]),)
     words = true_words(reading.book, own, goals[0], reading.form.near)
     return tuple([see_token(text, targets[0], word) for word in words])
 
@@ -109,7 +109,7 @@ def is_preferred_entry(reading, k, item):
     """Whether an entry of the index has the preferred ranges."""
     entry = reading.entry(k, item)
     pairs = preferred_ranges(reading.book, reading.term_pages(entry[1]))
-    return entry[2:] == tuple([span_token(*pair) for pair in pairs])
+    return entry[2:] == tuple([span_token(first, last) for first, last in pairs])
 
 
 def _reading_fault(reading):

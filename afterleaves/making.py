@@ -13,52 +13,54 @@ from afterleaves.successors import is_kept
 class Maker:
     """Makes the leaves of the way that ends with a step.
 
-    Its pages are tuples (first node, node behind, load); labels and kept tell of each leaf its label and the
-    index of the old leaf that it is, or None; owns and starts tell the index of the page of each pointer and block.
+    Its sheets, one for each page, are tuples (first node, node behind, load); signs and stays tell of each leaf
+    its label and the index of the old leaf that it is, or None; owns and starts tell the index of the page of each
+    pointer and block.
     """
 
     def __init__(self, layout, last):
         self.layout = layout
         self.text = layout.text
         self.form = layout.form
-        self.pages = []
-        self.labels = []
-        self.kept = []
+        self.sheets = []
+        self.signs = []
+        self.stays = []
         for step in way_steps(last):
-            self.pages.extend(list(step.pages))
+            self.sheets.extend(list(step.sheets))
             if step.place[1] == 0:
-                self.labels.append(layout.row.last_label(*step.place[2:]))
-                self.kept.append(step.kept)
-        loads = [(spot, load) for spot, (first, behind, load) in enumerate(self.pages) if load is not None]
+                spot, count = step.place[2:]
+                self.signs.append(layout.row.last_label(spot, count))
+                self.stays.append(step.stays)
+        loads = [(spot, load) for spot, (first, behind, load) in enumerate(self.sheets) if load is not None]
         self.starts = {unit: spot for spot, load in loads for unit, shape in load.starts}
         self.owns = {own[0]: (spot, own[1]) for spot, load in loads for own in load.owns}
 
     def page(self, spot):
         """The page with this index."""
-        return (self.labels[spot // 2], spot & 1)
+        return (self.signs[spot // 2], spot & 1)
 
-    def leaves(self):
+    def made_leaves(self):
         """The leaves without pen strokes."""
         rows = self._body()
-        count = len([first for first, behind, load in self.pages[::2] if first[0] < self.layout.body])
+        count = len([first for first, behind, load in self.sheets[::2] if first[0] < self.layout.body])
         papers = [self._paper(rows, spot) for spot in range(2 * count)]
         leaves = self._bound(papers)
         for tokens in self._entries(rows, Book(leaves)):
             shown = entry_rows(tokens, self.form)
             rows.put(shown, ((),) * len(shown), (), False)
-        papers.extend([self._paper(rows, spot) for spot in range(2 * count, len(self.pages))])
+        papers.extend([self._paper(rows, spot) for spot in range(2 * count, len(self.sheets))])
         return self._bound(papers)
 
     def _bound(self, papers):
         """The leaves with these pages."""
-        return [Leaf(self.labels[k], papers[2 * k], papers[2 * k + 1]) for k in range(len(papers) // 2)]
+        return [Leaf(self.signs[k], papers[2 * k], papers[2 * k + 1]) for k in range(len(papers) // 2)]
 
     def _paper(self, rows, spot):
         """The rows of a page."""
-        kept = self.kept[spot // 2]
+        kept = self.stays[spot // 2]
         if kept is not None:
             return self.layout.papers[kept].leaf.side_rows(spot & 1)
-        first, behind, load = self.pages[spot]
+        first, behind, load = self.sheets[spot]
         return rows.paper(row_at(rows, first), row_at(rows, behind))
 
     def _body(self):
@@ -74,7 +76,7 @@ class Maker:
             return printed
         goals = [self.starts[goal] for goal in point.goals]
         if point.span:
-            return span_token(*[self.page(goal) for goal in goals])
+            return span_token(self.page(goals[0]), self.page(goals[1]))
         word = near_word(own, goals[0]) if self.form.near else None
         return point.far_token(self.page(goals[0])) if word is None else point.near_token(word)
 
@@ -83,7 +85,8 @@ class Maker:
         entries = []
         for block in self.text.blocks:
             if block[0] == "contents":
-                entries.extend(list(contents_entries(self.text, [self.page(self.starts[k]) for k in head_spots(self.text)])))
+                places = [self.page(self.starts[k]) for k in head_spots(self.text)]
+                entries.extend(list(contents_entries(self.text, places)))
             elif block[0] == "index":
                 entries.extend([index_entry(term, book, self._term_pages(rows, term, len(book))) for term in block[2]])
         return entries
@@ -91,7 +94,7 @@ class Maker:
     def _term_pages(self, rows, term, count):
         """The pages of the first leaves, so many, on which a term stands."""
         found = []
-        for spot, (first, behind, load) in enumerate(self.pages[:2 * count]):
+        for spot, (first, behind, load) in enumerate(self.sheets[:2 * count]):
             shown = rows.shown[row_at(rows, first):row_at(rows, behind)]
             if any([term in row.split(" ") for row in shown]):
                 found.append(self.page(spot))
@@ -125,8 +128,8 @@ def way_steps(last):
 def made_book(layout, last):
     """The book of a way; None if a leaf that was to be new has the print of an old one."""
     maker = Maker(layout, last)
-    plain = Book(maker.leaves())
-    if any([is_kept(layout.old, leaf) and kept is None for leaf, kept in zip(plain, maker.kept)]):
+    plain = Book(maker.made_leaves())
+    if any([is_kept(layout.old, leaf) and kept is None for leaf, kept in zip(plain, maker.stays)]):
         return None
     return _penned(layout.old, Reading(layout.text, layout.form, plain))
 

@@ -15,10 +15,10 @@ class Point:
     Its printed and said tokens are those that the leaves of an old book have where rows of its paragraph may be.
     """
 
-    def __init__(self, text, k, item, spot):
+    def __init__(self, text, k, item, turn):
         self.block = k
         self.item = item
-        self.spot = spot
+        self.turn = turn
         self.goals = text.targets(k, item)
         self.span = len(self.goals) == 2
         self.number = text.numbers[self.goals[0]]
@@ -49,8 +49,8 @@ def text_points(text):
     """All pointers of a text, in order."""
     points = []
     for k, item in text.pointers():
-        spot = len([point for point in points if point.block == k])
-        points.append(Point(text, k, item, spot))
+        turn = len([point for point in points if point.block == k])
+        points.append(Point(text, k, item, turn))
     return points
 
 
@@ -108,8 +108,9 @@ class Choices:
         """The set of those choices that have this width at the spot, which is then told; None if there are none."""
         place = (number, spot, width)
         if place not in self._cuts:
-            left = [(*vector[:spot], None, *vector[spot + 1:]) for vector in self._sets[number] if vector[spot] == width]
-            self._cuts[place] = self.numbered(left) if left else None
+            left = [vector for vector in self._sets[number] if vector[spot] == width]
+            told = [vector[:spot] + (None,) + vector[spot + 1:] for vector in left]
+            self._cuts[place] = self.numbered(told) if told else None
         return self._cuts[place]
 
 

@@ -12,26 +12,26 @@ finds holds for all ways unless an entry turned out longer than it had to be whe
 
 from heapq import heappop, heappush
 
+from afterleaves.books import MOST_LEAVES
 from afterleaves.bounds import NEVER, Bounds
-from afterleaves.labelrow import MOST_LEAVES
 from afterleaves.tracking import KEPT, Tracker
 
 
 class Step:
     """A step of a way: where it leads, what is known there, and what it cost so far.
 
-    Pages are the tuples (first node, node behind, load) of the pages that it adds, and kept is the index of the
+    Sheets are the tuples (first node, node behind, load) of the pages that it adds, and stays is the index of the
     kept leaf that they are, or None for a new page.
     """
 
-    def __init__(self, ahead, place, track, cost, leaves, pages, kept=None):
+    def __init__(self, ahead, place, track, cost, leaves, sheets, stays=None):
         self.ahead = ahead
         self.place = place
         self.track = track
         self.cost = cost
         self.leaves = leaves
-        self.pages = pages
-        self.kept = kept
+        self.sheets = sheets
+        self.stays = stays
 
 
 class Search:
@@ -83,18 +83,18 @@ class Search:
         """What ways must agree in to be taken for one."""
         node, side, spot, count = step.place
         # How many leaves there are only matters where there could be too many of them in the end.
-        near = step.leaves + self.bounds.most(node, side) > MOST_LEAVES
+        near = step.leaves + self.bounds.most_leaves(node, side) > MOST_LEAVES
         known = step.track.known(not self.rough or node[0] >= self.layout.body)
         return (*step.place, step.leaves if near else 0, *known)
 
     def _push(self, step):
         """Puts a step into the queue, unless it leads to no successor or a cheaper one leads to the same."""
         node, side, spot, count = step.place
-        if step.leaves + self.bounds.fewest(node, side) > MOST_LEAVES:
+        if step.leaves + self.bounds.fewest_leaves(node, side) > MOST_LEAVES:
             self.barred = self.barred or node[0] > self.listing.index
             return
         rows = tuple([self._least_rows(unit, step) for unit in range(max(node[0], self.layout.body), self.listing.end)])
-        bound = step.cost + self.bounds.least(step.place, step.track, rows)
+        bound = step.cost + self.bounds.bound_at(step.place, step.track, rows)
         if node[0] >= self.layout.body:
             self._compare(step, rows, bound)
         if bound >= self.limit:
@@ -113,7 +113,7 @@ class Search:
         """Notes whether the length of the entries that are ahead, behind all blocks, makes a difference."""
         unit = step.place[0][0]
         least = tuple(self.listing.least[unit - self.listing.contents:])
-        short = step.cost + self.bounds.least(step.place, step.track, least)
+        short = step.cost + self.bounds.bound_at(step.place, step.track, least)
         self.reached = min(self.reached, short)
         self.barred = self.barred or short < NEVER <= bound
         for first in range(unit, self.listing.end):
@@ -241,7 +241,8 @@ class Search:
     def _kept_entries(self, step, fit, wrong):
         """The step over an old leaf of a list, on which so many tokens are wrong; None if it may not come."""
         track = emptied(step.track)
-        track.alive = tuple([KEPT if other == fit else state for other, state in zip(self.listing.index_fits, track.alive)])
+        track.alive = tuple([KEPT if other == fit else state
+                             for other, state in zip(self.listing.index_fits, track.alive)])
         track = self._labelled(step, fit.j, track)
         if track is None:
             return None
@@ -252,7 +253,8 @@ class Search:
         cost = step.cost + (wrong * self.tracker.stroke if wrong else 0)
         place = ((fit.after, 0, 0), 0, fit.j + 1, 0)
         middle = (fit.middle, 0, 0)
-        return Step(step, place, track, cost, step.leaves + 1, ((step.place[0], middle, None), (middle, place[0], None)), fit.j)
+        sheets = ((step.place[0], middle, None), (middle, place[0], None))
+        return Step(step, place, track, cost, step.leaves + 1, sheets, fit.j)
 
     def _labelled(self, step, j, track):
         """The track with the label of a leaf that is kept behind a step; None if it may not come."""

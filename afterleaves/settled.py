@@ -13,10 +13,6 @@ from afterleaves.looker import FACING, HERE, OVERLEAF
 from afterleaves.printing import Printed, see_token, span_token, token_spot
 
 MOST_POINTERS = 4
-SHORT = ((1,), 0)
-LONG = ((10,), 0)
-# The labels of a setting have one or two digits, and these are spans of all widths that come of it.
-SPANS = ((SHORT, SHORT), (LONG, LONG), (SHORT, ((1,), 1)), (SHORT, LONG), (LONG, ((10,), 1)))
 
 
 def settled_books(text, form):
@@ -55,9 +51,13 @@ class Layouts:
 
     def _sample_tokens(self, targets):
         """A token of each width that a pointer with these targets can have."""
+        # The labels of a setting have one digit or two.
+        short = page_at(0)
+        long = page_at(18)
         if len(targets) == 2:
-            return [span_token(*pair) for pair in SPANS]
-        words = [write_page(SHORT), write_page(LONG)]
+            pairs = ((short, short), (long, long), (short, page_at(1)), (short, long), (long, page_at(19)))
+            return [span_token(first, last) for first, last in pairs]
+        words = [write_page(short), write_page(long)]
         if self.form.near:
             words.extend([HERE, OVERLEAF, FACING])
         return [see_token(self.text, targets[0], word) for word in words]
@@ -92,7 +92,7 @@ class Layouts:
         """The preferred token of a pointer on the page with the index own, for the indexes of its goals."""
         pages = [page_at(goal) for goal in goals]
         if len(pages) == 2:
-            return span_token(*pages)
+            return span_token(pages[0], pages[1])
         goal = goals[0]
         word = write_page(pages[0])
         if self.form.near and own == goal:

@@ -11,14 +11,15 @@ DIGIT = "0"
 class Shape:
     """One way to cut the rows of a block, and all choices of widths of its pointers that lead to it.
 
-    Rows are tuples of tokens; owns tells of each row the pairs of item and word of the pointers in it.
+    Rows are tuples of tokens, and tall tells their heights; owns tells of each row the pairs of item and word of
+    the pointers in it.
     """
 
     def __init__(self, text, k, form, items, vectors):
         printed = Printed(text, k, tuple([DIGIT * width for width in vectors[0]]), form)
         self.rows = tuple([tuple(row.split(" ")) for row in printed.rows])
         self.feet = printed.feet
-        self.heights = printed.heights
+        self.tall = printed.heights
         self.ends = printed.ends[:-1] + (printed.ends[-1] or ends_text(text, k),)
         self.vectors = tuple(vectors)
         self.owns = _row_owns(self.rows, items)

@@ -33,7 +33,7 @@ class Stayers:
         book = any_book(self._search(wanted))
         if book is None:
             return False
-        self._found.append([j for j, leaf in enumerate(self.old) if leaf.label in book and is_kept(self.old, book[leaf.label])])
+        self._found.append([self.old.labels.index(leaf.label) for leaf in book if is_kept(self.old, leaf)])
         return True
 
 

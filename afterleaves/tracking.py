@@ -42,7 +42,7 @@ class Track:
 
     def copied(self):
         """Another track that is alike so far."""
-        return Track(*self.known(True))
+        return Track(self.points, self.near, self.paras, self.heads, self.terms, self.wrongs, self.alive)
 
 
 class Tracker:
@@ -187,7 +187,7 @@ class Tracker:
         """Tells the width of a pointer; False if it cannot have it."""
         point = self.layout.points[p]
         q = self.layout.owners.index(point.block)
-        number = self.layout.choices.cut(paras[q], point.spot, width)
+        number = self.layout.choices.cut(paras[q], point.turn, width)
         if number is None:
             return False
         paras[q] = number
@@ -210,9 +210,9 @@ class Tracker:
     def _open_part(self, p, pair):
         """The pair of own and goal of an open pointer, without a first page that no old leaf says."""
         own, goal = pair
-        if goal != 0 and len(goal) == 3 and not any([token.startswith(goal[1]) for token in self.layout.points[p].said]):
-            return (own, (goal[0], "", 0))
-        return pair
+        if goal == 0 or len(goal) < 3 or any([token.startswith(goal[1]) for token in self.layout.points[p].said]):
+            return pair
+        return (own, (goal[0], "", 0))
 
     def _near_word(self, p, owned, goals, near, side):
         """The near word for a pointer, one end of which stands on the page; None if there is none."""

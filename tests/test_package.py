@@ -25,6 +25,13 @@ FUNCTIONS = {
     "filling": {"set_book": "text told form"},
     "rounds": {"next_round": "text form book"},
     "settled": {"settled_books": "text form"},
+    "successors": {"successor_fault": "old new text form *strokes", "strokes_of": "old new",
+                   "price_of": "old new *leaf *stroke"},
+    "renewal": {"fresh_book": "text form"},
+    "staying": {"staying": "old labels text form", "must_go": "old text form", "quarrels": "old text form"},
+    "errata": {"parting": "one other", "needed": "old new"},
+    "erratatext": {"write_errata": "errata", "read_errata": "lines"},
+    "saying": {"can_say": "lists page row word token", "healing_list": "lists old new"},
 }
 CLASSES = {
     ("formats", "Format"): {"__init__": "width height near", "__eq__": None},
@@ -40,6 +47,9 @@ CLASSES = {
     ("looker", "Looker"): {"__init__": "form", "__call__": "text book"},
     ("looker", "Verdict"): {"__init__": "fault", "__bool__": None},
     ("rounds", "Rounds"): {"__init__": "text form first", "rests": "", "__iter__": None, "__len__": None},
+    ("renewal", "Renewal"): {"__init__": "old text form *leaf *stroke", "kept": "", "sent": "", "gone": "", "strokes": ""},
+    ("errata", "Errata"): {"__init__": "corrections", "__call__": "book", "table": "", "__add__": None, "__len__": None,
+                           "__iter__": None, "__eq__": None, "turned": "page row word token"},
 }
 
 
@@ -48,7 +58,9 @@ def tree(name):
 
 
 def arguments(function):
-    return " ".join([argument.arg for argument in function.args.args if argument.arg != "self"])
+    """The names of the arguments; those that are passed by name alone have a star."""
+    plain = [argument.arg for argument in function.args.args if argument.arg != "self"]
+    return " ".join(plain + ["*" + argument.arg for argument in function.args.kwonlyargs])
 
 
 def functions(body):

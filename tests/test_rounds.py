@@ -17,6 +17,12 @@ FORM = Format(20, 6)
 LONG = ("xxxxxxxx",) * 16
 
 
+# Texts whose rounds go round for ever, each a chapter of its own.
+RING_OF_3 = ("head ha 1 a", "para ba fee rulesxx see:fa see:fa keeper office office", "para ca rulesxx", "fig fa 1")
+RING_OF_4 = ("head hb 1 a", "para bb a late see:fb see:cb desk if", "para cb fee rulesxx a", "para db see:cb fee", "fig fb 1")
+RING_OF_5 = ("head hc 1 a", "para bc see:fc if", "para cc if if late desk see:bc see:fc see:bc keeper", "fig fc 1")
+
+
 class RoundsTest(unittest.TestCase):
     def test_rounds_that_rest(self):
         rounds = Rounds(setting(), FORM)
@@ -71,6 +77,21 @@ class RoundsTest(unittest.TestCase):
                 book = next_round(text, form, book)
                 self.assertEqual(book, further)
                 self.assertFalse(is_plain(text, form, book))
+
+    def test_a_ring_of_several_books(self):
+        text, form = read_text((*RING_OF_3, *RING_OF_4)), Format(20, 4)
+        rounds = Rounds(text, form)
+        self.assertEqual((len(rounds), rounds.ring, rounds.rests), (13, 12, False))
+        book = rounds.books[-1]
+        for further in rounds.books[-12:]:
+            book = next_round(text, form, book)
+            self.assertEqual(book, further)
+
+    def test_too_many_rounds(self):
+        self.assertEqual(Rounds(read_text((*RING_OF_4, *RING_OF_5)), Format(20, 4)).ring, 20)
+        with self.assertRaises(TooMany) as caught:
+            Rounds(read_text((*RING_OF_3, *RING_OF_4, *RING_OF_5)), Format(20, 4))
+        self.assertEqual(caught.exception.word, "round")
 
     def test_errors(self):
         self.assertRaises(NoBook, Rounds, Text((fig("a", 2),)), Format(20, 2))
