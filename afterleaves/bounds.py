@@ -94,12 +94,12 @@ class Bounds:
     def fewest_leaves(self, node, side):
         """No more than the leaves that are needed from a node on."""
         if node[0] < self.layout.body:
-            return self._fewest[(node, side)] + self._fewest_lists(self.listing.contents)
+            return self._fewest[(node, side)] + self._fewest_lists(self.listing.contents_first)
         return self._fewest_lists(node[0])
 
     def _fewest_lists(self, unit):
         """No more than the leaves that the lists need from a unit on; an entry that has begun a list is not counted."""
-        lists = ((self.listing.contents, self.listing.index), (self.listing.index, self.listing.end))
+        lists = ((self.listing.contents_first, self.listing.index_first), (self.listing.index_first, self.listing.end))
         return len([first for first, last in lists if unit <= first < last])
 
     def most_leaves(self, node, side):
@@ -115,7 +115,7 @@ class Bounds:
             spots = [spot] + [j + 1 for j in self.wanted if j >= spot]
             table = self._bound if count > 0 else self._nodes
             return table[(node, side)][spot] + min([
-                self._listed(self.listing.contents, 0, begin, rows, track.wrongs, track.alive) for begin in spots])
+                self._listed(self.listing.contents_first, 0, begin, rows, track.wrongs, track.alive) for begin in spots])
         if count > 0 and not self._still_in_list(node[0], spot, track):
             return NEVER
         return self._listed(node[0], side, spot, rows, track.wrongs, track.alive)
@@ -143,8 +143,8 @@ class Bounds:
         return min(bounds + [NEVER])
 
     def list_pages(self, unit, rows):
-        """The units behind all new pages that begin at a unit of a list; rows are those of this and each further unit."""
-        last = self.listing.index if unit < self.listing.index else self.listing.end
+        """The units behind all new pages that begin at a unit of a list; rows are those of the units from it on."""
+        last = self.listing.index_first if unit < self.listing.index_first else self.listing.end
         found = []
         used = 0
         for count in range(last - unit):

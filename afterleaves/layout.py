@@ -32,7 +32,7 @@ class Layout:
         self.terms = [term for block in text.blocks if block[0] == "index" for term in block[2]]
         self.widths = self.row.page_widths(self._most_leaves())
         self.choices = Choices()
-        self.owners = sorted(set([point.block for point in self.points]))
+        self.holders = sorted(set([point.block for point in self.points]))
         self.shapes = [self._unit_shapes(k) for k in range(self.body)]
         self.masks = [[[self._mask(row) for row in shape.rows] for shape in shapes] for shapes in self.shapes]
         self.begins = [must_begin_leaf(text.blocks[k]) for k in range(self.body)]
@@ -118,8 +118,8 @@ class Layout:
         units = [unit for unit, shape in starts]
         load.goals = tuple([(p, which) for p, point in enumerate(self.points)
                             for which, goal in enumerate(point.goals) if goal in units])
-        load.paras = tuple([(self.owners.index(unit), self.choices.numbered(self.shapes[unit][shape].vectors))
-                            for unit, shape in starts if unit in self.owners])
+        load.paras = tuple([(self.holders.index(unit), self.choices.numbered(self.shapes[unit][shape].vectors))
+                            for unit, shape in starts if unit in self.holders])
         load.heads = tuple([unit for unit in units if self.text.blocks[unit][0] == "head"])
         load.touched = tuple(sorted(set([own[0] for own in owns] + [p for p, which in load.goals])))
         return load

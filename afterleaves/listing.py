@@ -58,19 +58,19 @@ class Listing:
         text = layout.text
         kinds = [block[0] for block in text.blocks]
         self.heads = head_spots(text) if "contents" in kinds else []
-        self.contents = layout.body
-        self.index = layout.body + len(self.heads)
-        self.end = self.index + len(layout.terms)
+        self.contents_first = layout.body
+        self.index_first = layout.body + len(self.heads)
+        self.end = self.index_first + len(layout.terms)
         self._rows = {}
         self._leasts = {}
-        self.least = [self._least_rows(unit) for unit in range(self.contents, self.end)]
+        self.least = [self._least_rows(unit) for unit in range(self.contents_first, self.end)]
         fits = [fit for j in range(len(layout.papers)) for fit in self._leaf_fits(j)]
-        self.contents_fits = [fit for fit in fits if fit.first < self.index]
-        self.index_fits = [fit for fit in fits if fit.first >= self.index]
+        self.contents_fits = [fit for fit in fits if fit.first < self.index_first]
+        self.index_fits = [fit for fit in fits if fit.first >= self.index_first]
 
     def must_begin(self, unit):
         """Whether an entry must begin a leaf."""
-        return unit in (self.contents, self.index)
+        return unit in (self.contents_first, self.index_first)
 
     def head_rows(self, k, width):
         """The number of rows of the entry of a head on a page whose written form is so wide."""
@@ -106,9 +106,9 @@ class Listing:
 
     def _least_rows(self, unit):
         """No more than the rows that a new entry has."""
-        if unit < self.index:
-            return min([self.head_rows(self.heads[unit - self.contents], width) for width in self.layout.widths])
-        bit = unit - self.index
+        if unit < self.index_first:
+            return min([self.head_rows(self.heads[unit - self.contents_first], width) for width in self.layout.widths])
+        bit = unit - self.index_first
         stands = any([mask >> bit & 1 for shapes in self.layout.masks for masks in shapes for mask in masks])
         return self.term_least(bit, (min(self.layout.widths),) if stands else ())
 
@@ -131,7 +131,7 @@ class Listing:
         if not paper.fits(self.layout.form.height) or paper.feet[0] or paper.feet[1]:
             return []
         fits = []
-        for first in range(self.contents, self.end):
+        for first in range(self.contents_first, self.end):
             fit = self._leaf_fit(j, paper, first)
             if fit is not None:
                 fits.append(fit)
@@ -144,7 +144,7 @@ class Listing:
         after = None if middle is None else self._read_side(paper, 1, middle, read)
         if after is None or (paper.rows[1] and self.must_begin(middle)):
             return None
-        if first >= self.index:
+        if first >= self.index_first:
             entries = [(bit, pairs) for bit, pairs in read]
             if paper.is_marked() or not all([one <= two for bit, pairs in entries for one, two in pairs]):
                 return None
@@ -158,14 +158,14 @@ class Listing:
         rows = paper.rows[side]
         spot = 0
         while spot < len(rows):
-            if unit == self.end or (unit == self.index and spot > 0):
+            if unit == self.end or (unit == self.index_first and spot > 0):
                 return None
-            entry = self._head_entry(rows, spot, unit) if unit < self.index else self._term_entry(rows, spot, unit)
+            entry = self._head_entry(rows, spot, unit) if unit < self.index_first else self._term_entry(rows, spot, unit)
             if entry is None:
                 return None
             count, thing = entry
-            if unit < self.index:
-                thing = (self.heads[unit - self.contents], (side, spot + thing[0], thing[1]))
+            if unit < self.index_first:
+                thing = (self.heads[unit - self.contents_first], (side, spot + thing[0], thing[1]))
             read.append(thing)
             spot = spot + count
             unit = unit + 1
@@ -173,7 +173,7 @@ class Listing:
 
     def _head_entry(self, rows, spot, unit):
         """The number of rows of an entry of the contents, and the place of its pointer in these; or None."""
-        words = self.layout.text.blocks[self.heads[unit - self.contents]][3]
+        words = self.layout.text.blocks[self.heads[unit - self.contents_first]][3]
         tokens = []
         count = 0
         while len(tokens) < len(words) + 2 and spot + count < len(rows):
@@ -187,7 +187,7 @@ class Listing:
 
     def _term_entry(self, rows, spot, unit):
         """The number of rows of an entry of the index, and its bit with the pairs of its ranges; or None."""
-        bit = unit - self.index
+        bit = unit - self.index_first
         count = 1
         while spot + count < len(rows) and read_range(rows[spot + count][0]) is not None:
             count = count + 1

@@ -44,14 +44,14 @@ class Maker:
         rows = self._body()
         count = len([first for first, behind, load in self.sheets[::2] if first[0] < self.layout.body])
         papers = [self._paper(rows, spot) for spot in range(2 * count)]
-        leaves = self._bound(papers)
+        leaves = self._bound_leaves(papers)
         for tokens in self._entries(rows, Book(leaves)):
             shown = entry_rows(tokens, self.form)
             rows.put(shown, ((),) * len(shown), (), False)
         papers.extend([self._paper(rows, spot) for spot in range(2 * count, len(self.sheets))])
-        return self._bound(papers)
+        return self._bound_leaves(papers)
 
-    def _bound(self, papers):
+    def _bound_leaves(self, papers):
         """The leaves with these pages."""
         return [Leaf(self.signs[k], papers[2 * k], papers[2 * k + 1]) for k in range(len(papers) // 2)]
 

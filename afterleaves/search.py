@@ -91,7 +91,7 @@ class Search:
         """Puts a step into the queue, unless it leads to no successor or a cheaper one leads to the same."""
         node, side, spot, count = step.place
         if step.leaves + self.bounds.fewest_leaves(node, side) > MOST_LEAVES:
-            self.barred = self.barred or node[0] > self.listing.index
+            self.barred = self.barred or node[0] > self.listing.index_first
             return
         rows = tuple([self._least_rows(unit, step) for unit in range(max(node[0], self.layout.body), self.listing.end)])
         bound = step.cost + self.bounds.bound_at(step.place, step.track, rows)
@@ -112,7 +112,7 @@ class Search:
     def _compare(self, step, rows, bound):
         """Notes whether the length of the entries that are ahead, behind all blocks, makes a difference."""
         unit = step.place[0][0]
-        least = tuple(self.listing.least[unit - self.listing.contents:])
+        least = tuple(self.listing.least[unit - self.listing.contents_first:])
         short = step.cost + self.bounds.bound_at(step.place, step.track, least)
         self.reached = min(self.reached, short)
         self.barred = self.barred or short < NEVER <= bound
@@ -129,8 +129,8 @@ class Search:
     def _further(self, step):
         """All steps behind a step."""
         if step.place[1] == 1:
-            return self._backs(step)
-        return self._kept(step) + self._fronts(step)
+            return self._back_steps(step)
+        return self._kept_steps(step) + self._front_steps(step)
 
     def _new_pages(self, step):
         """The pairs of node and load of the new pages that can come; a page of a list has no load."""
@@ -144,20 +144,20 @@ class Search:
 
     def _entry_rows(self, unit, track):
         """The rows of a new entry, when all blocks are behind."""
-        if unit < self.listing.index:
-            head = self.listing.heads[unit - self.listing.contents]
+        if unit < self.listing.index_first:
+            head = self.listing.heads[unit - self.listing.contents_first]
             if head in self.tracker.heads:
                 return track.heads[self.tracker.heads.index(head)]
-        elif unit - self.listing.index in self.tracker.terms:
-            return track.terms[self.tracker.terms.index(unit - self.listing.index)]
-        return self.listing.least[unit - self.listing.contents]
+        elif unit - self.listing.index_first in self.tracker.terms:
+            return track.terms[self.tracker.terms.index(unit - self.listing.index_first)]
+        return self.listing.least[unit - self.listing.contents_first]
 
     def _least_rows(self, unit, step):
         """No more than the rows that a new entry will have."""
-        least = self.listing.least[unit - self.listing.contents]
-        if step.place[0][0] >= self.layout.body or unit < self.listing.index:
+        least = self.listing.least[unit - self.listing.contents_first]
+        if step.place[0][0] >= self.layout.body or unit < self.listing.index_first:
             return max(least, self._entry_rows(unit, step.track))
-        bit = unit - self.listing.index
+        bit = unit - self.listing.index_first
         if self.rough or bit not in self.tracker.terms:
             return least
         return max(least, self.listing.term_least(bit, step.track.terms[self.tracker.terms.index(bit)][0]))
@@ -172,7 +172,7 @@ class Search:
             self.tracker.end_blocks(paged[0])
         return paged
 
-    def _backs(self, step):
+    def _back_steps(self, step):
         """The steps behind a new front."""
         node, side, spot, count = step.place
         page = (self.layout.row.last_label(spot, count), 1)
@@ -184,7 +184,7 @@ class Search:
                 steps.append(Step(step, (after, 0, spot, count), paged[0], cost, step.leaves, ((node, after, load),)))
         return [further for further in steps if self._may_be(further)]
 
-    def _fronts(self, step):
+    def _front_steps(self, step):
         """The steps to the front of a new leaf."""
         node, side, spot, count = step.place
         row = self.layout.row
@@ -195,7 +195,7 @@ class Search:
         for label, further, number in options:
             track = step.track.copied()
             # With shorter entries the leaves of the index that are behind might have been enough.
-            if label is None and node[0] > self.listing.index:
+            if label is None and node[0] > self.listing.index_first:
                 self.barred = True
             if label is None or not self.tracker.note_label(track, row.last_label(spot, count), label):
                 continue
@@ -208,7 +208,7 @@ class Search:
                     steps.append(Step(step, place, paged[0], cost, step.leaves + 1, ((node, after, load),)))
         return steps
 
-    def _kept(self, step):
+    def _kept_steps(self, step):
         """The steps over a kept leaf."""
         node, side, spot, count = step.place
         steps = []

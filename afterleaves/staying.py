@@ -17,7 +17,7 @@ class Stayers:
         self.listing = Listing(self.layout)
         self._found = []
 
-    def book(self, wanted):
+    def cheapest_book(self, wanted):
         """A successor that keeps all these leaves, with the fewest new ones, or None."""
         return cheapest(self._search(wanted))
 
@@ -44,7 +44,7 @@ def staying(old, labels, text, form):
         if label not in old:
             raise Unknown(label)
     kept = [old[label].label for label in labels]
-    return Stayers(old, text, form).book(tuple([j for j, label in enumerate(old.labels) if label in kept]))
+    return Stayers(old, text, form).cheapest_book(tuple([j for j, label in enumerate(old.labels) if label in kept]))
 
 
 def must_go(old, text, form):

@@ -58,7 +58,7 @@ class Tracker:
 
     def start(self):
         """The track ahead of all pages."""
-        return Track(((0, 0),) * len(self.layout.points), (), (0,) * len(self.layout.owners), (0,) * len(self.heads),
+        return Track(((0, 0),) * len(self.layout.points), (), (0,) * len(self.layout.holders), (0,) * len(self.heads),
                      (((), ()),) * len(self.terms), (0,) * len(self.listing.contents_fits),
                      (OPEN,) * len(self.listing.index_fits))
 
@@ -186,7 +186,7 @@ class Tracker:
     def _cut(self, paras, p, width):
         """Tells the width of a pointer; False if it cannot have it."""
         point = self.layout.points[p]
-        q = self.layout.owners.index(point.block)
+        q = self.layout.holders.index(point.block)
         number = self.layout.choices.cut(paras[q], point.turn, width)
         if number is None:
             return False
