@@ -114,8 +114,9 @@ class Bounds:
             # Leaves that must be kept may be kept for blocks, and the lists then begin behind them.
             spots = [spot] + [j + 1 for j in self.wanted if j >= spot]
             table = self._bound if count > 0 else self._nodes
-            return table[(node, side)][spot] + min([
-                self._listed(self.listing.contents_first, 0, begin, rows, track.wrongs, track.alive) for begin in spots])
+            lists = [self._listed(self.listing.contents_first, 0, begin, rows, track.wrongs, track.alive)
+                     for begin in spots]
+            return table[(node, side)][spot] + min(lists)
         if count > 0 and not self._still_in_list(node[0], spot, track):
             return NEVER
         return self._listed(node[0], side, spot, rows, track.wrongs, track.alive)

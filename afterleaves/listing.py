@@ -160,7 +160,8 @@ class Listing:
         while spot < len(rows):
             if unit == self.end or (unit == self.index_first and spot > 0):
                 return None
-            entry = self._head_entry(rows, spot, unit) if unit < self.index_first else self._term_entry(rows, spot, unit)
+            read_entry = self._head_entry if unit < self.index_first else self._term_entry
+            entry = read_entry(rows, spot, unit)
             if entry is None:
                 return None
             count, thing = entry
