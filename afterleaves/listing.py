@@ -160,8 +160,7 @@ class Listing:
         while spot < len(rows):
             if unit == self.end or (unit == self.index_first and spot > 0):
                 return None
-            read_entry = self._head_entry if unit < self.index_first else self._term_entry
-            entry = read_entry(rows, spot, unit)
+            entry = self._entry(rows, spot, unit)
             if entry is None:
                 return None
             count, thing = entry
@@ -171,6 +170,10 @@ class Listing:
             spot = spot + count
             unit = unit + 1
         return unit
+
+    def _entry(self, rows, spot, unit):
+        """The number of rows of an entry, and what it tells; None if it does not stand there."""
+        return self._head_entry(rows, spot, unit) if unit < self.index_first else self._term_entry(rows, spot, unit)
 
     def _head_entry(self, rows, spot, unit):
         """The number of rows of an entry of the contents, and the place of its pointer in these; or None."""
