@@ -135,13 +135,13 @@ class Layout:
         if not paper.fits(self.form.height):
             return []
         found = []
-        for middle, front, first_places in self._side_fits(paper, 0, node):
-            for after, back, last_places in self._side_fits(paper, 1, middle):
+        for middle, front, first_places in self.side_fits(paper, 0, node):
+            for after, back, last_places in self.side_fits(paper, 1, middle):
                 if not paper.spoilt_at({place: True for place in first_places + last_places}):
                     found.append(Fit(middle, after, self.load(*front), self.load(*back)))
         return found
 
-    def _side_fits(self, paper, side, node):
+    def side_fits(self, paper, side, node):
         """For all ways in which a side fits behind a node the node behind, what is held, and the places of pointers."""
         partly = [(node, True, (), ((), (), 0), ())]
         for spot in range(len(paper.rows[side])):

@@ -128,7 +128,7 @@ class Listing:
     def _leaf_fits(self, j):
         """All ways in which an old leaf fits as a leaf of a list."""
         paper = self.layout.papers[j]
-        if not paper.fits(self.layout.form.height) or paper.feet[0] or paper.feet[1]:
+        if not paper.fits(self.layout.form.height):
             return []
         fits = []
         for first in range(self.contents_first, self.end):
@@ -139,19 +139,28 @@ class Listing:
 
     def _leaf_fit(self, j, paper, first):
         """The fit of an old leaf from the unit first on, or None."""
+        leaf = self.read_leaf(paper, first)
+        if leaf is None:
+            return None
+        middle, after, read = leaf
+        if first >= self.index_first:
+            if paper.is_marked() or not all([one <= two for bit, pairs in read for one, two in pairs]):
+                return None
+            return IndexFit(j, first, middle, after, read)
+        if paper.spoilt_at({place: True for k, place in read}):
+            return None
+        return ContentsFit(j, first, middle, after, {k: self._said_page(paper, k, place) for k, place in read})
+
+    def read_leaf(self, paper, first):
+        """The units behind the two sides of a leaf that is printed as entries from a unit on, and these; or None."""
+        if paper.feet[0] or paper.feet[1]:
+            return None
         read = []
         middle = self._read_side(paper, 0, first, read)
         after = None if middle is None else self._read_side(paper, 1, middle, read)
         if after is None or (paper.rows[1] and self.must_begin(middle)):
             return None
-        if first >= self.index_first:
-            entries = [(bit, pairs) for bit, pairs in read]
-            if paper.is_marked() or not all([one <= two for bit, pairs in entries for one, two in pairs]):
-                return None
-            return IndexFit(j, first, middle, after, entries)
-        if paper.spoilt_at({place: True for k, place in read}):
-            return None
-        return ContentsFit(j, first, middle, after, {k: self._said_page(paper, k, place) for k, place in read})
+        return (middle, after, read)
 
     def _read_side(self, paper, side, unit, read):
         """The unit behind the entries that stand on a side from a unit on, or None if they do not stand there."""

@@ -74,6 +74,15 @@ def true_words(book, own, goal, near):
     return tuple(words)
 
 
+def near_word(own, goal):
+    """The near word for the way between two pages that are told by their indexes in a book, or None."""
+    if own == goal:
+        return HERE
+    if own // 2 == goal // 2:
+        return OVERLEAF
+    return FACING if own - goal in (1, -1) else None
+
+
 def preferred_token(reading, k, item):
     """The preferred token of a pointer, or of the pointer of an entry of the contents."""
     return true_tokens(reading, k, item)[0]

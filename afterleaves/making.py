@@ -4,7 +4,7 @@ from afterleaves.books import Book
 from afterleaves.filling import Rows, body_rows, told_of
 from afterleaves.leaves import Leaf
 from afterleaves.lists import contents_entries, head_spots, index_entry
-from afterleaves.looker import FACING, HERE, OVERLEAF, preferred_token, true_tokens
+from afterleaves.looker import near_word, preferred_token, true_tokens
 from afterleaves.printing import Printed, entry_rows, span_token
 from afterleaves.reading import Reading
 from afterleaves.successors import is_kept
@@ -107,15 +107,6 @@ def row_at(rows, node):
     return rows.starts[unit] + row if unit < len(rows.starts) else len(rows.shown)
 
 
-def near_word(own, goal):
-    """The near word for the way between the pages with these indexes, or None."""
-    if own == goal:
-        return HERE
-    if own // 2 == goal // 2:
-        return OVERLEAF
-    return FACING if own - goal in (1, -1) else None
-
-
 def way_steps(last):
     """The steps of the way that ends with this step, without its beginning."""
     steps = []
@@ -126,11 +117,8 @@ def way_steps(last):
 
 
 def made_book(layout, last):
-    """The book of a way; None if a leaf that was to be new has the print of an old one."""
-    maker = Maker(layout, last)
-    plain = Book(maker.made_leaves())
-    if any([is_kept(layout.old, leaf) and kept is None for leaf, kept in zip(plain, maker.stays)]):
-        return None
+    """The book of the way that ends with a step."""
+    plain = Book(Maker(layout, last).made_leaves())
     return _penned(layout.old, Reading(layout.text, layout.form, plain))
 
 
@@ -139,7 +127,7 @@ def _penned(old, reading):
     strokes = {leaf.label: [] for leaf in reading.book}
     for pair in reading.owners():
         (label, side), row, word = reading.own(*pair)
-        if label not in old or not old[label].same_print(reading.book[label]):
+        if not is_kept(old, reading.book[label]):
             continue
         said = old[label].says(side, row, word)
         if said not in true_tokens(reading, *pair):

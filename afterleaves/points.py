@@ -12,7 +12,8 @@ from afterleaves.reading import has_pointer_form, is_foot_row
 class Point:
     """A pointer: where it stands in the text and in its paragraph, and where it leads.
 
-    Its printed and said tokens are those that the leaves of an old book have where rows of its paragraph may be.
+    Its printed and said tokens are those that the leaves of an old book have where rows of its paragraph may be;
+    to those that are said come those that are printed below a stroke.
     """
 
     def __init__(self, text, k, item, turn):
@@ -76,7 +77,7 @@ def _find_in_row(points, text, row, said):
             word = point.item + 1 - first
             if 0 <= word < len(row):
                 point.printed.append(row[word])
-                point.said.append(said[word])
+                point.said.extend(sorted(set([row[word], said[word]])))
 
 
 def _is_token(thing, token):

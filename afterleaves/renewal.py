@@ -64,39 +64,23 @@ def judge_sizes(old, text):
 
 
 def cheapest(search):
-    """The book of the best way that a search finds, or None."""
-    search.begin(False, True, NEVER)
+    """The book of the cheapest way of a search, or None."""
+    search.begin(True, NEVER)
     way = search.next_way()
     if search.barred if way is None else search.cramped and way.cost > search.reached:
-        search.begin(False, False, NEVER if way is None else way.cost)
+        search.begin(False, NEVER if way is None else way.cost)
         way = search.next_way() or way
-    return _book_or_other(search, way)
+    return None if way is None else made_book(search.layout, way)
 
 
 def any_book(search):
-    """The book of some way that a search finds, or None if there is none."""
-    search.begin(False, True, NEVER)
+    """The book of some way of a search, or None if there is none."""
+    search.begin(True, NEVER)
     way = search.next_way()
     if way is None and search.barred:
-        search.begin(False, False, NEVER)
+        search.begin(False, NEVER)
         way = search.next_way()
-    return _book_or_other(search, way)
-
-
-def _book_or_other(search, way):
-    """The book of a way; of another one if the way leads to no successor after all."""
-    book = None if way is None else made_book(search.layout, way)
-    if way is None or book is not None:
-        return book
-    # A leaf that was to be new has the print of an old leaf that says something else; and others may have been
-    # left out for this way.
-    search.begin(True, False, NEVER)
-    while book is None:
-        way = search.next_way()
-        if way is None:
-            return None
-        book = made_book(search.layout, way)
-    return book
+    return None if way is None else made_book(search.layout, way)
 
 
 def fresh_book(text, form):

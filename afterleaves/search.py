@@ -14,6 +14,7 @@ from heapq import heappop, heappush
 
 from afterleaves.books import MOST_LEAVES
 from afterleaves.bounds import NEVER, Bounds
+from afterleaves.shadows import are_watched
 from afterleaves.tracking import KEPT, Tracker
 
 
@@ -44,16 +45,14 @@ class Search:
         self.tracker = Tracker(layout, listing, stroke)
         self.bounds = Bounds(layout, listing, leaf, stroke, wanted)
         self.wanted = wanted
-        self.begin(False, False, NEVER)
+        self.begin(False, NEVER)
 
-    def begin(self, apart, rough, limit):
+    def begin(self, rough, limit):
         """Begins a search for ways that cost less than the limit.
 
-        If ways stay apart, none is left out for another one. Reached is then the least bound of a place behind
-        all blocks, were all entries short; cramped tells whether the length of entries made any difference so
-        far, and barred whether it may have ended a way.
+        Reached is then the least bound of a place behind all blocks, were all entries short; cramped tells whether
+        the length of entries made any difference so far, and barred whether it may have ended a way.
         """
-        self.apart = apart
         self.rough = rough
         self.limit = limit
         self.reached = NEVER
@@ -71,7 +70,7 @@ class Search:
         """The last step of the next way to a successor, or None if there is no other one."""
         while self._queue:
             bound, rank, number, step = heappop(self._queue)
-            if not self.apart and self._best[self._key(step)] < step.cost:
+            if self._best[self._key(step)] < step.cost:
                 continue
             if self._is_end(step):
                 return step
@@ -99,11 +98,10 @@ class Search:
             self._compare(step, rows, bound)
         if bound >= self.limit:
             return
-        if not self.apart:
-            key = self._key(step)
-            if key in self._best and self._best[key] <= step.cost:
-                return
-            self._best[key] = step.cost
+        key = self._key(step)
+        if key in self._best and self._best[key] <= step.cost:
+            return
+        self._best[key] = step.cost
         self._pushed = self._pushed + 1
         # Of ways that are equally good the one that is furthest goes first.
         rank = -1000 * node[0] - 2 * node[2] - side
@@ -176,9 +174,13 @@ class Search:
         """The steps behind a new front."""
         node, side, spot, count = step.place
         page = (self.layout.row.last_label(spot, count), 1)
-        steps = [Step(step, (node, 0, spot, count), emptied(step.track), step.cost, step.leaves, ((node, node, None),))]
-        for after, load in self._new_pages(step):
-            paged = self._paged(step.track, page, load, after)
+        steps = []
+        for after, load in [(node, None)] + self._new_pages(step):
+            track = self._watched_back(step, after, load)
+            if track is None or after == node:
+                paged = None if track is None else (emptied(track), 0)
+            else:
+                paged = self._paged(track, page, load, after)
             if paged is not None:
                 cost = step.cost + paged[1]
                 steps.append(Step(step, (after, 0, spot, count), paged[0], cost, step.leaves, ((node, after, load),)))
@@ -201,12 +203,43 @@ class Search:
                 continue
             self.tracker.drop(track, further)
             for after, load in self._new_pages(step):
-                paged = self._paged(track, (label, 0), load, after)
+                watched = self._watched_front(track, spot, number, node, after, load)
+                paged = self._paged(watched, (label, 0), load, after)
                 if paged is not None:
                     cost = step.cost + self.leaf + paged[1]
                     place = (after, 1, further, number)
                     steps.append(Step(step, place, paged[0], cost, step.leaves + 1, ((node, after, load),)))
         return steps
+
+    def _watched_front(self, track, spot, number, node, after, load):
+        """The track with a watch, if a new front is printed as that of a marked leaf whose label it bears."""
+        shadows = self.tracker.shadows
+        if number > 0 or load is None or spot not in shadows.marked:
+            return track
+        pairs = shadows.pages_alike(spot, 0, node, after, load)
+        if pairs is None:
+            return track
+        track = track.copied()
+        track.watches = (*track.watches, (spot, False, pairs))
+        return track
+
+    def _watched_back(self, step, after, load):
+        """The track with the watch of a leaf whose back is chosen; None if it has the print of a marked leaf."""
+        node, side, spot, count = step.place
+        shadows = self.tracker.shadows
+        if count > 0 or spot - 1 not in shadows.marked:
+            return step.track
+        first = step.sheets[0][0]
+        if first[0] >= self.layout.body:
+            same = shadows.is_same_list(step.track.flags, spot - 1, first[0], node[0], after[0])
+            return None if same else step.track
+        track = step.track.copied()
+        track.watches = tuple([watch for watch in track.watches if watch[1]])
+        pairs = shadows.pages_alike(spot - 1, 1, node, after, load)
+        for j, whole, open_pairs in step.track.watches:
+            if not whole and pairs is not None:
+                track.watches = (*track.watches, (j, True, open_pairs + pairs))
+        return track if load is not None or are_watched(track.watches) else None
 
     def _kept_steps(self, step):
         """The steps over a kept leaf."""

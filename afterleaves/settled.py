@@ -9,7 +9,7 @@ from afterleaves.errors import NoBook, TooMany
 from afterleaves.filling import body_rows, body_spans, page_at, plain_spots, set_book, told_of
 from afterleaves.labels import write_page
 from afterleaves.lines import token_width
-from afterleaves.looker import FACING, HERE, OVERLEAF
+from afterleaves.looker import FACING, HERE, OVERLEAF, near_word
 from afterleaves.printing import Printed, see_token, span_token, token_spot
 
 MOST_POINTERS = 4
@@ -93,12 +93,5 @@ class Layouts:
         pages = [page_at(goal) for goal in goals]
         if len(pages) == 2:
             return span_token(pages[0], pages[1])
-        goal = goals[0]
-        word = write_page(pages[0])
-        if self.form.near and own == goal:
-            word = HERE
-        elif self.form.near and own // 2 == goal // 2:
-            word = OVERLEAF
-        elif self.form.near and own - goal in (1, -1):
-            word = FACING
-        return see_token(self.text, targets[0], word)
+        word = near_word(own, goals[0]) if self.form.near else None
+        return see_token(self.text, targets[0], write_page(pages[0]) if word is None else word)

@@ -10,11 +10,14 @@ That is all that the rest of the way hangs on, and no more, so that ways which a
   terms    for each term whose entry varies the widths of its ranges, and the range that is open
   wrongs   for each old leaf that fits in the contents how many of its pointers are not true; DEAD if too many
   alive    for each old leaf that fits in the index whether it is true so far
+  watches  the watches of marked leaves
+  flags    for each shadow of a list whether the list is printed as on the old leaf so far
 """
 
 from afterleaves.labels import write_page
 from afterleaves.lines import token_width
 from afterleaves.looker import FACING, HERE, OVERLEAF
+from afterleaves.shadows import Shadows, are_watched, told_watches
 
 NEW = 1
 DEAD = -1
@@ -27,7 +30,7 @@ KEPT = 2
 class Track:
     """What matters of the pages so far; see above."""
 
-    def __init__(self, points, near, paras, heads, terms, wrongs, alive):
+    def __init__(self, points, near, paras, heads, terms, wrongs, alive, watches, flags):
         self.points = points
         self.near = near
         self.paras = paras
@@ -35,14 +38,18 @@ class Track:
         self.terms = terms
         self.wrongs = wrongs
         self.alive = alive
+        self.watches = watches
+        self.flags = flags
 
     def known(self, whole):
         """All of it as one tuple; without the terms if it shall not be whole."""
-        return (self.points, self.near, self.paras, self.heads, self.terms if whole else (), self.wrongs, self.alive)
+        return (self.points, self.near, self.paras, self.heads, self.terms if whole else (), self.wrongs, self.alive,
+                self.watches, self.flags)
 
     def copied(self):
         """Another track that is alike so far."""
-        return Track(self.points, self.near, self.paras, self.heads, self.terms, self.wrongs, self.alive)
+        return Track(self.points, self.near, self.paras, self.heads, self.terms, self.wrongs, self.alive,
+                     self.watches, self.flags)
 
 
 class Tracker:
@@ -54,13 +61,14 @@ class Tracker:
         self.stroke = stroke
         self.heads = listing.varied_heads()
         self.terms = listing.varied_terms()
+        self.shadows = Shadows(layout, listing)
         self._words = {}
 
     def start(self):
         """The track ahead of all pages."""
         return Track(((0, 0),) * len(self.layout.points), (), (0,) * len(self.layout.holders), (0,) * len(self.heads),
                      (((), ()),) * len(self.terms), (0,) * len(self.listing.contents_fits),
-                     (OPEN,) * len(self.listing.index_fits))
+                     (OPEN,) * len(self.listing.index_fits), (), self.shadows.first_flags())
 
     def written(self, page):
         """The page as it is written."""
@@ -80,7 +88,9 @@ class Tracker:
             track.near = ()
         if load.heads and self.listing.heads:
             self._headed(track, page, load.heads)
-        return (track, cost) if self.note_terms(track, page, load.mask) else None
+        if track.flags:
+            track.flags = self.shadows.termed(track.flags, page, load.mask)
+        return (track, cost) if are_watched(track.watches) and self.note_terms(track, page, load.mask) else None
 
     def note_terms(self, track, page, mask):
         """Notes the terms on a page that has rows; False if a leaf that was kept is not true then."""
@@ -91,30 +101,20 @@ class Tracker:
 
     def note_page(self, track, page, mask):
         """Notes of a page with rows whether old leaves of the index are true of it; False as above."""
-        if not any([state != LOST for state in track.alive]):
-            return True
-        alive = []
-        for state, fit in zip(track.alive, self.listing.index_fits):
-            if state != LOST and mask & fit.care != fit.told_on(page):
-                if state == KEPT:
-                    return False
-                state = LOST
-            alive.append(state)
-        track.alive = tuple(alive)
-        return True
+        return self._lose(track, [state != LOST and mask & fit.care != fit.told_on(page)
+                                  for state, fit in zip(track.alive, self.listing.index_fits)])
 
     def note_label(self, track, low, high):
         """Notes that two labels follow each other (None ahead of all and behind all); False as above."""
-        if not any([state != LOST for state in track.alive]):
-            return True
-        alive = []
-        for state, fit in zip(track.alive, self.listing.index_fits):
-            if state != LOST and fit.passes_end(low, high):
-                if state == KEPT:
-                    return False
-                state = LOST
-            alive.append(state)
-        track.alive = tuple(alive)
+        return self._lose(track, [state != LOST and fit.passes_end(low, high)
+                                  for state, fit in zip(track.alive, self.listing.index_fits)])
+
+    def _lose(self, track, failed):
+        """Notes which old leaves of the index may not be kept any more; False if one of them was kept."""
+        if KEPT in [state for state, fails in zip(track.alive, failed) if fails]:
+            return False
+        if any(failed):
+            track.alive = tuple([LOST if fails else state for state, fails in zip(track.alive, failed)])
         return True
 
     def drop(self, track, spot):
@@ -137,6 +137,8 @@ class Tracker:
 
     def _headed(self, track, page, heads):
         """Notes the page of heads that begin on it."""
+        if track.flags:
+            track.flags = self.shadows.headed(track.flags, heads, page)
         width = len(self.written(page))
         if self.heads:
             track.heads = tuple([self.listing.head_rows(k, width) if k in heads else rows
@@ -177,6 +179,9 @@ class Tracker:
             if price is None:
                 return None
             cost = cost + price
+            if own == NEW and track.watches:
+                token = goal[1] if word is None else self.layout.points[p].near_token(word)
+                track.watches = told_watches(track.watches, p, token)
             points[p] = (0, 0)
         track.points = tuple(points)
         track.paras = tuple(paras)

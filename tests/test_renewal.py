@@ -157,6 +157,43 @@ class RenewalTest(unittest.TestCase):
         self.assertRaises(NoBook, Renewal, Book((Leaf((1,), ("0p1 x .",), (), ((0, 0, 1, "y"),)),)), one, FORM)
         self.assertEqual(Renewal(Book((Leaf((1,), ("0p1 x .",), (), ((0, 0, 1, "x"),)),)), one, FORM).price, 0)
 
+    def test_lists_that_cannot_have_their_old_print(self):
+        # The old leaf of the index says another range: the entries must stand on two leaves, or on two pages.
+        old = setting_book((3, "pen", ((0, 0, 2, "1a"),)))
+        for stroke in (None, 1):
+            renewal = Renewal(old, setting(), FORM, stroke=stroke)
+            self.check(renewal, old, setting(), FORM, 1, stroke)
+            self.assertEqual((renewal.price, renewal.kept), (1, ((1,), (2,), (3,))))
+            self.assertEqual([renewal.book.leaves[3].front, renewal.book.leaves[3].back], [("+ desk 1b-2a",), ("+ pays 1a-1b",)])
+        # That of the contents can be corrected by pen, or be sent in another print.
+        old = setting_book((2, "pen", ((0, 1, 1, "2/9a"),)))
+        self.assertEqual(Renewal(old, setting(), FORM, stroke=1).kept, ((1,), (2,), (3,), (4,)))
+        renewal = Renewal(old, setting(), FORM)
+        self.check(renewal, old, setting(), FORM)
+        self.assertEqual(renewal.book.leaves[2].back, ("- 2/2a last things",))
+        one = Text(setting().blocks[:2] + (fig("plan", 1), para("late"), ("contents", "l")))
+        book = fresh_book(one, FORM)
+        spoilt = Book((*book.leaves[:-1], Leaf(book.labels[-1], book.leaves[-1].front, (), ((0, 0, 1, "1/9a"),))))
+        renewal = Renewal(spoilt, one, FORM)
+        self.check(renewal, spoilt, one, FORM)
+        self.assertEqual((renewal.price, renewal.sent), (3, ((1,), (2,), (3,))))
+        self.assertEqual(Renewal(spoilt, one, FORM, stroke=2).price, 2)
+        self.assertEqual(Renewal(spoilt, one, FORM, stroke=20).price, 3)
+
+    def test_pointers_that_make_an_old_print(self):
+        # The old leaf 1 is printed as it would be again, and says by pen what was true of another text.
+        text = read_text(("para a see:c x", "fig b 4", "fig c 4"))
+        form = Format(20, 6, False)
+        book = fresh_book(text, form)
+        old = Book((Leaf((1,), book.leaves[0].front, book.leaves[0].back, ((0, 0, 1, "0f2/2a"),)), *book.leaves[1:]))
+        for stroke, price in ((None, least_price(old, text, form, 4, 1, None)), (1, 1), (20, least_price(old, text, form, 4, 1, 20))):
+            if price is None:
+                self.assertRaises(NoBook, Renewal, old, text, form, stroke=stroke)
+            else:
+                renewal = Renewal(old, text, form, stroke=stroke)
+                self.check(renewal, old, text, form, 1, stroke)
+                self.assertEqual(renewal.price, price)
+
     def test_an_edit_and_back(self):
         text = read_text(("para a see:c x", "fig b 2", "fig c 1 x", "contents l", "index i x"))
         form = Format(20, 5)
