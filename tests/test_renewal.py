@@ -81,15 +81,35 @@ class RenewalTest(unittest.TestCase):
         self.check(renewal, setting_book(), text, FORM)
 
     def test_new_leaves_between_kept_ones(self):
-        # Four leaves of two paragraphs each; what is put between the second and the third one is sent between them.
-        text = Text([head("top", 2), *[para(name, *LONG[:7]) for name in names(8)]])
-        form = Format(20, 4)
+        # Each figure fills a page, and each paragraph; figures are not counted anew for paragraphs.
+        text = Text([fig(name, 2) for name in "abcd"])
+        form = Format(20, 3)
         old = fresh_book(text, form)
-        self.assertEqual(old.leaves[0].front[0], "0.1 x")
-        further = Text([*text.blocks, para("end", "x")])
-        renewal = Renewal(old, further, form)
-        self.check(renewal, old, further, form)
-        self.assertEqual(renewal.price, 1)
+        self.assertEqual(old.labels, ((1,), (2,)))
+        whole = [para(name, *LONG[:5]) for name in names(5)]
+        for place, count, sent in ((0, 1, ((0, 1),)), (0, 3, ((0, 1), (0, 2))), (2, 1, ((1, 1),)), (2, 4, ((1, 1), (1, 2))), (4, 2, ((3,),)),
+                                   (4, 5, ((3,), (4,), (5,)))):
+            further = edited_all(text, [("put", place + k, whole[k]) for k in range(count)])
+            for leaf_price in (1, 20):
+                renewal = Renewal(old, further, form, leaf=leaf_price)
+                self.check(renewal, old, further, form, leaf_price)
+                self.assertEqual((renewal.sent, renewal.kept, renewal.gone), (sent, ((1,), (2,)), ()))
+                self.assertEqual(renewal.price, leaf_price * len(sent))
+
+    def test_labels_of_leaves_that_are_gone(self):
+        text = Text([fig(name, 2) for name in "abcdef"])
+        form = Format(20, 3)
+        old = fresh_book(text, form)
+        whole = [para(name, *LONG[:5]) for name in names(5)]
+        # Two figures are taken out, and paragraphs come in their place: the figures behind them have the old numbers.
+        for count in (1, 2):
+            further = Text((*text.blocks[:2], *whole[:count], *text.blocks[4:]))
+            renewal = Renewal(old, further, form)
+            self.check(renewal, old, further, form)
+            self.assertEqual((renewal.kept, renewal.sent, renewal.gone), (((1,), (2,)), ((1, 1),), ((3,),)))
+        captions = Text((*text.blocks[:2], fig("c", 2, ()), fig("d", 1, ("z", )), *text.blocks[4:]))
+        renewal = Renewal(old, captions, form)
+        self.assertEqual((renewal.sent, renewal.gone, renewal.kept), (((2,),), ((2,),), ((1,), (3,))))
 
     def test_labels(self):
         form = Format(20, 3)
