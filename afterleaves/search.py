@@ -110,7 +110,9 @@ class Search:
     def _compare(self, step, rows, bound):
         """Notes whether the length of the entries that are ahead, behind all blocks, makes a difference."""
         unit = step.place[0][0]
-        least = tuple(self.listing.least[unit - self.listing.contents_first:])
+        # Ways are never taken for one whose entries of the contents differ in length.
+        told = rows[:max(0, self.listing.index_first - unit)]
+        least = told + tuple(self.listing.least[unit + len(told) - self.listing.contents_first:])
         short = step.cost + self.bounds.bound_at(step.place, step.track, least)
         self.reached = min(self.reached, short)
         self.barred = self.barred or short < NEVER <= bound
