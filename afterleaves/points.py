@@ -97,7 +97,7 @@ class Choices:
 
     def numbered(self, vectors):
         """The number of a set of vectors, in which None stands for a width that matters no more."""
-        kept = tuple(sorted(set(vectors), key=_order))
+        kept = tuple(sorted(list({vector: True for vector in vectors}), key=_order))
         if all([width is None for vector in kept for width in vector]):
             kept = ()
         if kept not in self._numbers:

@@ -105,5 +105,42 @@ class LimitsTest(unittest.TestCase):
                         self.assertLessEqual(node.end_lineno - node.lineno + 1, 40, node.name)
 
 
+class SetsTest(unittest.TestCase):
+    """Sets stand after `in`, beside another set that is compared, or straight within sorted(..) or len(..) alone."""
+
+    def misplaced(self, source):
+        """The rows of the sets that stand elsewhere."""
+        whole = ast.parse(source)
+        above = {child: node for node in ast.walk(whole) for child in ast.iter_child_nodes(node)}
+        return [node.lineno for node in ast.walk(whole) if is_set(node) and not is_placed(node, above)]
+
+    def test_the_files_of_the_package(self):
+        for path in sorted(FOLDER.glob("*.py")):
+            with self.subTest(path.name):
+                self.assertEqual(self.misplaced(path.read_text(encoding="utf-8")), [])
+
+    def test_what_is_found(self):
+        for line in ("sorted(set(xs))", "len({x for x in xs})", "len(set(xs) | set(ys))", "x in set(xs)", "set(xs) != set(ys)"):
+            self.assertEqual(self.misplaced(line), [], line)
+        for line in ("sorted(set(xs), key=f)", "sorted(set(xs), reverse=True)", "tuple(set(xs))", "set(xs) == ys", "list({x for x in xs})"):
+            self.assertEqual(self.misplaced(line), [1], line)
+
+
+def is_set(node):
+    called = isinstance(node, ast.Call) and isinstance(node.func, ast.Name) and node.func.id in ("set", "frozenset")
+    return called or isinstance(node, (ast.Set, ast.SetComp))
+
+
+def is_placed(node, above):
+    """Whether a set stands where one may stand."""
+    while isinstance(above[node], ast.BinOp):
+        node = above[node]
+    outer = above[node]
+    if isinstance(outer, ast.Compare):
+        other = outer.left if node in outer.comparators else outer.comparators[0]
+        return isinstance(outer.ops[0], (ast.In, ast.NotIn)) if node in outer.comparators and not is_set(other) else is_set(other)
+    return isinstance(outer, ast.Call) and getattr(outer.func, "id", "") in ("sorted", "len") and not outer.keywords
+
+
 if __name__ == "__main__":
     unittest.main()
