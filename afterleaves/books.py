@@ -84,3 +84,18 @@ def _judged_leaves(leaves):
         if leaves[k].label <= leaves[k - 1].label:
             raise BadOrder(k)
     return tuple(leaves)
+
+
+def leaf_print(leaf):
+    """What is printed on a leaf: its label, front and back."""
+    return (leaf.label, leaf.front, leaf.back)
+
+
+def book_print(book):
+    """What is printed on the leaves of a book."""
+    return tuple([leaf_print(leaf) for leaf in book])
+
+
+def is_kept(book, leaf):
+    """Whether a book has a leaf with the same label and print."""
+    return leaf.label in book and leaf.same_print(book[leaf.label])

@@ -5,6 +5,8 @@ from afterleaves.forms import is_sized, is_within, read_integer
 
 MOST_PARTS = 3
 SIDES = "ab"
+# The number of no label, but of a place behind all of them; 0 is that of a place ahead of all of them.
+BEYOND = 1000000
 
 
 def kept_label(thing):
@@ -59,6 +61,29 @@ def _least_above(low, count):
         label.append(number % 100)
         number = number // 100
     return None if number else tuple(label[::-1])
+
+
+def label_number(label):
+    """The place of a label among all that there are, counted from 1."""
+    # No two labels differ only in zeros at their ends: so filled up with zeros they stay in their order, and
+    # are then, to the base 100, just all the numbers below BEYOND.
+    first, second, third = (*label, 0, 0)[:MOST_PARTS]
+    return (first * 100 + second) * 100 + third
+
+
+def numbered_label(number):
+    """The label with this number, or None if it is that of a place ahead of all labels or behind them."""
+    if not 0 < number < BEYOND:
+        return None
+    parts = [number // 10000, number // 100 % 100, number % 100]
+    while parts[-1] == 0:
+        parts.pop()
+    return tuple(parts)
+
+
+def is_inside(label, low, high):
+    """Whether a label is above low and below high; None is no bound."""
+    return (low is None or label > low) and (high is None or label < high)
 
 
 def write_label(label):

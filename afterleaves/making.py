@@ -1,13 +1,12 @@
 """Making the book of a way that the search has found."""
 
-from afterleaves.books import Book
+from afterleaves.books import Book, is_kept
 from afterleaves.filling import Rows, body_rows, told_of
 from afterleaves.leaves import Leaf
 from afterleaves.lists import contents_entries, head_spots, index_entry
 from afterleaves.looker import near_word, preferred_token, true_tokens
 from afterleaves.printing import Printed, entry_rows, span_token
 from afterleaves.reading import Reading
-from afterleaves.successors import is_kept
 
 
 class Maker:

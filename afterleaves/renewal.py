@@ -1,13 +1,13 @@
 """Renewals: the successors of a book that cost the least."""
 
 from afterleaves.bounds import NEVER
-from afterleaves.books import Book
+from afterleaves.books import Book, is_kept
 from afterleaves.errors import NoBook, TooMany
 from afterleaves.layout import Layout
 from afterleaves.listing import Listing
 from afterleaves.making import made_book
 from afterleaves.search import Search
-from afterleaves.successors import is_kept, judged_price, price_of, strokes_of
+from afterleaves.successors import judged_price, price_of, strokes_of
 
 MOST_BLOCKS = 12
 MOST_POINTERS = 4

@@ -5,6 +5,7 @@ of widths the rows are filled into pages once, the tokens that are preferred the
 book comes of the choice if these have just the widths chosen.
 """
 
+from afterleaves.books import book_print
 from afterleaves.errors import NoBook, TooMany
 from afterleaves.filling import body_rows, body_spans, page_at, plain_spots, set_book, told_of
 from afterleaves.labels import write_page
@@ -29,7 +30,7 @@ def settled_books(text, form):
             book = set_book(text, told, form)
         except (NoBook, TooMany):
             continue
-        books[tuple([(leaf.label, leaf.front, leaf.back) for leaf in book])] = book
+        books[book_print(book)] = book
     return tuple([books[prints] for prints in sorted(list(books))])
 
 

@@ -1,11 +1,11 @@
 """Which leaves of an old book can stay, alone and together, when nothing may be corrected by pen."""
 
+from afterleaves.books import is_kept
 from afterleaves.errors import Unknown
 from afterleaves.layout import Layout
 from afterleaves.listing import Listing
 from afterleaves.renewal import any_book, cheapest, judge_sizes
 from afterleaves.search import Search
-from afterleaves.successors import is_kept
 
 
 class Stayers:

@@ -1,9 +1,10 @@
 """Successors of a book: what they keep of it, what strokes they cost, and whether a book is one."""
 
+from afterleaves.books import is_kept
 from afterleaves.errata import differences
 from afterleaves.errors import BadPrice, NoRoom
 from afterleaves.forms import is_within
-from afterleaves.labels import between
+from afterleaves.labels import between, is_inside
 from afterleaves.looker import Looker, index_pairs, is_preferred_entry, preferred_token, said_token, true_tokens
 from afterleaves.reading import Reading
 
@@ -15,11 +16,6 @@ def judged_price(price, word):
     if not is_within(price, 1, MOST_PRICE):
         raise BadPrice(word)
     return price
-
-
-def is_kept(old, leaf):
-    """Whether the old book has a leaf of the same print."""
-    return leaf.label in old and leaf.same_print(old[leaf.label])
 
 
 def strokes_of(old, new):
@@ -94,7 +90,7 @@ def told_label(old, new, k):
         if is_kept(old, leaf):
             high = leaf.label
             break
-    there = [label for label in old.labels if (low is None or label > low) and (high is None or label < high)]
+    there = [label for label in old.labels if is_inside(label, low, high)]
     if k - first < len(there):
         return there[k - first]
     try:

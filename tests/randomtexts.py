@@ -2,6 +2,7 @@
 
 from random import Random
 
+from afterleaves.edits import edited
 from afterleaves.errors import AfterError
 from afterleaves.texts import Text
 
@@ -62,3 +63,20 @@ def random_text(random, blocks, pointers, items=8, chapters=True):
 def random_texts(seed, count, blocks, pointers, items=8, chapters=True):
     random = Random(seed)
     return [random_text(random, random.choice(blocks), random.choice(pointers), items, chapters) for _ in range(count)]
+
+
+def random_edit(random, text):
+    """The text with one edit at random."""
+    while True:
+        block = random.choice(text.blocks)
+        place = random.randint(0, len(text))
+        words = tuple(random.choice(WORDS) for _ in range(random.randint(1, 6)))
+        edits = [("drop", block[1]), ("put", place, ("para", "new", words)), ("move", block[1], place)]
+        if block[0] == "para":
+            items = list(block[2])
+            items.insert(random.randint(0, len(items)), random.choice(WORDS))
+            edits.extend([("swap", block[1], ("para", block[1], items))] * 3)
+        try:
+            return edited(text, random.choice(edits))
+        except AfterError:
+            continue

@@ -32,6 +32,13 @@ FUNCTIONS = {
     "errata": {"parting": "one other", "needed": "old new"},
     "erratatext": {"write_errata": "errata", "read_errata": "lines"},
     "saying": {"can_say": "lists page row word token", "healing_list": "lists old new"},
+    "packets": {"trimmed": "packet", "parting": "one other", "packet_between": "old new"},
+    "packettext": {"write_packet": "packet", "read_packet": "lines"},
+    "reached": {"binders": "archive *steady", "rows_to": "archive binder *steady"},
+    "meetings": {"meeting": "archive wanted *steady", "surely_filed": "archive binder *steady", "surely_missed": "archive binder *steady",
+                 "filed_again": "archive binder"},
+    "healing": {"healing_packet": "archive *steady"},
+    "following": {"follow": "binder place", "walk": "binder place", "pointers_on": "binder"},
 }
 CLASSES = {
     ("formats", "Format"): {"__init__": "width height near", "__eq__": None},
@@ -50,6 +57,9 @@ CLASSES = {
     ("renewal", "Renewal"): {"__init__": "old text form *leaf *stroke", "kept": "", "sent": "", "gone": "", "strokes": ""},
     ("errata", "Errata"): {"__init__": "corrections", "__call__": "book", "table": "", "__add__": None, "__len__": None,
                            "__iter__": None, "__eq__": None, "turned": "page row word token"},
+    ("packets", "Packet"): {"__init__": "stretches", "__call__": "book", "__add__": None, "__contains__": None, "__eq__": None, "__len__": None,
+                            "__iter__": None},
+    ("archive", "Archive"): {"__init__": "form texts books", "newest": "", "__len__": None, "packet": "k", "binder": "row"},
 }
 
 

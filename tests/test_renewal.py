@@ -4,7 +4,7 @@ from time import perf_counter
 
 from afterleaves.books import Book
 from afterleaves.edits import edited, edited_all, undoing
-from afterleaves.errors import AfterError, BadPrice, NoBook, TooMany
+from afterleaves.errors import BadPrice, NoBook, TooMany
 from afterleaves.formats import Format
 from afterleaves.leaves import Leaf
 from afterleaves.looker import Looker, is_plain
@@ -14,30 +14,13 @@ from afterleaves.settled import settled_books
 from afterleaves.successors import price_of, strokes_of, successor_fault
 from afterleaves.textread import read_text
 from afterleaves.texts import Text
-from tests.randomtexts import WORDS, random_text, random_texts
+from tests.randomtexts import random_edit, random_text, random_texts
 from tests.samples import aslists, fig, head, leaf, names, para, setting, setting_book
 from tests.tryall import all_successors, least_price
 
 FORM = Format(20, 6)
 LONG = ("xxxxxxxx",) * 16
 SMALL = (Format(20, 3), Format(20, 4), Format(24, 4, False), Format(30, 5))
-
-
-def random_edit(random, text):
-    """The text with one edit at random."""
-    while True:
-        block = random.choice(text.blocks)
-        place = random.randint(0, len(text))
-        words = tuple(random.choice(WORDS) for _ in range(random.randint(1, 6)))
-        edits = [("drop", block[1]), ("put", place, ("para", "new", words)), ("move", block[1], place)]
-        if block[0] == "para":
-            items = list(block[2])
-            items.insert(random.randint(0, len(items)), random.choice(WORDS))
-            edits.extend([("swap", block[1], ("para", block[1], items))] * 3)
-        try:
-            return edited(text, random.choice(edits))
-        except AfterError:
-            continue
 
 
 def pencilled(random, book):

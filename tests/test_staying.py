@@ -3,14 +3,14 @@ from itertools import combinations
 from random import Random
 from time import perf_counter
 
-from afterleaves.books import Book
+from afterleaves.books import Book, is_kept
 from afterleaves.edits import edited
 from afterleaves.errors import NoBook, NotThere, TooMany, Unknown
 from afterleaves.formats import Format
 from afterleaves.leaves import Leaf
 from afterleaves.renewal import Renewal, fresh_book
 from afterleaves.staying import must_go, quarrels, staying
-from afterleaves.successors import is_kept, successor_fault
+from afterleaves.successors import successor_fault
 from afterleaves.textread import read_text
 from afterleaves.texts import Text
 from tests.randomtexts import random_text, random_texts

@@ -2,7 +2,7 @@
 
 from itertools import product
 
-from afterleaves.books import Book
+from afterleaves.books import Book, is_kept
 from afterleaves.errors import AfterError, NoRoom
 from afterleaves.filling import body_rows, told_of
 from afterleaves.labels import between, write_page
@@ -11,7 +11,7 @@ from afterleaves.lists import contents_entries, head_spots, index_entry
 from afterleaves.looker import preferred_token, true_tokens
 from afterleaves.printing import Printed, entry_rows
 from afterleaves.reading import Reading
-from afterleaves.successors import is_kept, price_of, successor_fault
+from afterleaves.successors import price_of, successor_fault
 
 NEAR = ("here", "overleaf", "facing")
 
