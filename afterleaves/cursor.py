@@ -2,6 +2,7 @@
 
 from afterleaves.errors import BadLine
 from afterleaves.forms import is_word, read_integer
+from afterleaves.labels import read_label
 
 
 def line_words(line, number):
@@ -53,6 +54,10 @@ class Cursor:
     def take_integer(self, least, most):
         """Takes an integer from the least to the most one."""
         return self.take(read_integer(self.look(), least, most))
+
+    def take_label(self):
+        """Takes a label as it is written."""
+        return self.take(read_label(self.look()))
 
     def take_names(self, least, most):
         """Takes all words that are left, so many names or words."""

@@ -1,7 +1,8 @@
 """Editing texts, and the edits that undo edits."""
 
+from afterleaves.blocks import kept_block
 from afterleaves.errors import BadEdit, BadPlace
-from afterleaves.forms import is_integer, is_sized, is_word
+from afterleaves.forms import is_integer, is_sized, is_tuple, is_word
 from afterleaves.texts import Text
 
 
@@ -10,6 +11,11 @@ def judged_edit(edit):
     if not is_sized(edit, 2, 3) or not _has_form(edit):
         raise BadEdit()
     return tuple(edit)
+
+
+def kept_edit(edit):
+    """An edit that can be done, with tuples in the place of lists."""
+    return tuple([kept_block(part) if is_tuple(part) else part for part in edit])
 
 
 def _has_form(edit):

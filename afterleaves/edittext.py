@@ -19,14 +19,18 @@ def write_edit(edit):
 
 def read_edit(line):
     """The edit that a line tells."""
-    words = line_words(line, 0)
-    cursor = Cursor(words, 0, 0)
+    return told_edit(line_words(line, 0), 0, 0)
+
+
+def told_edit(words, line, first):
+    """The edit that the words of a line tell from the index first on."""
+    cursor = Cursor(words, line, first)
     word = cursor.take_one(EDITS)
     if word == "put":
-        return (word, cursor.take_integer(0, MOST_PLACE), read_block(words, 0, 2))
+        return (word, cursor.take_integer(0, MOST_PLACE), read_block(words, line, first + 2))
     name = cursor.take_name()
     if word == "swap":
-        return (word, name, read_block(words, 0, 2))
+        return (word, name, read_block(words, line, first + 2))
     edit = (word, name) if word == "drop" else (word, name, cursor.take_integer(0, MOST_PLACE))
     cursor.take_end()
     return edit

@@ -2,7 +2,7 @@
 
 from afterleaves.cursor import Cursor, line_words
 from afterleaves.errors import BadLine
-from afterleaves.labels import read_label, write_label
+from afterleaves.labels import write_label
 from afterleaves.leaves import LONGEST_ROW, MOST_ROWS, MOST_TOKENS, Leaf, is_token
 from afterleaves.packets import Packet
 
@@ -48,12 +48,12 @@ def _take_bound(cursor):
     if cursor.look() == NO_BOUND:
         cursor.take(NO_BOUND)
         return None
-    return cursor.take(read_label(cursor.look()))
+    return cursor.take_label()
 
 
 def _read_leaf(cursor, lines, first):
     """The leaf of a line whose first word is taken, and of the lines of its rows from the line first on."""
-    label = cursor.take(read_label(cursor.look()))
+    label = cursor.take_label()
     front = cursor.take_integer(1, MOST_ROWS)
     back = cursor.take_integer(0, MOST_ROWS)
     cursor.take_end()

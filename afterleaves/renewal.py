@@ -53,12 +53,17 @@ class Renewal:
         return self._strokes
 
 
-def judge_sizes(old, text):
-    """TooMany if the text or the old book is too large for a search."""
+def judge_text(text):
+    """TooMany if the text is too large for a search."""
     if len(text) > MOST_BLOCKS:
         raise TooMany("block")
     if len(text.pointers()) > MOST_POINTERS:
         raise TooMany("pointer")
+
+
+def judge_sizes(old, text):
+    """TooMany if the text or the old book is too large for a search."""
+    judge_text(text)
     if len(old) > MOST_OLD:
         raise TooMany("leaf")
 

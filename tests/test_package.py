@@ -39,6 +39,13 @@ FUNCTIONS = {
                  "filed_again": "archive binder"},
     "healing": {"healing_packet": "archive *steady"},
     "following": {"follow": "binder place", "walk": "binder place", "pointers_on": "binder"},
+    "meanings": {"first_misled": "archive *steady"},
+    "seams": {"seams": "binder", "is_seamless": "binder"},
+    "chimeras": {"chimeras": "archive *steady"},
+    "safety": {"enlarged": "archive added", "is_safe": "archive added", "least_safe": "archive"},
+    "plans": {"plan_price": "old texts form words *late", "best_plan": "old texts form *late"},
+    "house": {"foreseen": "house entries"},
+    "journal": {"write_journal": "house", "read_journal": "lines", "taken_up": "lines"},
 }
 CLASSES = {
     ("formats", "Format"): {"__init__": "width height near", "__eq__": None},
@@ -60,6 +67,11 @@ CLASSES = {
     ("packets", "Packet"): {"__init__": "stretches", "__call__": "book", "__add__": None, "__contains__": None, "__eq__": None, "__len__": None,
                             "__iter__": None},
     ("archive", "Archive"): {"__init__": "form texts books", "newest": "", "__len__": None, "packet": "k", "binder": "row"},
+    ("meanings", "Meanings"): {"__init__": "archive", "meant": "leaf side row word", "standing": "leaf side row", "judged": "binder place",
+                               "misled_places": "binder"},
+    ("house", "House"): {"__init__": "form text", "archive": "", "text_now": "", "account": "", "desks": "", "enter": "entry", "binder_of": "name",
+                         "copy": "", "upto": "moment", "__eq__": None},
+    ("house", "Trial"): {"__init__": "house", "__enter__": "", "__exit__": None},
 }
 
 
