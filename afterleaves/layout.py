@@ -12,7 +12,6 @@ from afterleaves.papers import Fit, Load, Paper
 from afterleaves.points import Choices, find_tokens, text_points
 from afterleaves.printing import DRAWN, Printed
 from afterleaves.reading import has_pointer_form
-from afterleaves.shapes import block_shapes
 
 WIDEST = 20
 
@@ -20,9 +19,10 @@ WIDEST = 20
 class Layout:
     """The rows of a text, with an old book whose leaves may be kept."""
 
-    def __init__(self, text, form, old):
+    def __init__(self, text, store, old):
         self.text = text
-        self.form = form
+        self.store = store
+        self.form = store.form
         self.old = old
         self.papers = [Paper(leaf) for leaf in old]
         self.row = LabelRow(old.labels)
@@ -53,7 +53,7 @@ class Layout:
     def _unit_shapes(self, k):
         points = [point for point in self.points if point.block == k]
         options = [point.all_widths(self.widths, self.form.near) for point in points]
-        return block_shapes(self.text, k, self.form, [point.item for point in points], options)
+        return self.store.block_shapes(self.text, k, [point.item for point in points], options)
 
     def _mask(self, row):
         return sum([1 << bit for bit, term in enumerate(self.terms) if term in row])

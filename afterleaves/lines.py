@@ -27,10 +27,19 @@ def set_lines(tokens, width):
 
 def row_ends(widths, width):
     """For each token the index behind the row that begins with it, were it the first token of all."""
+    costs = [0] * len(widths)
+    ends = [len(widths)] * len(widths)
+    fill_ends(widths, width, costs, ends, (0, len(widths)))
+    return ends
+
+
+def fill_ends(widths, width, costs, ends, span):
+    """Notes for each token of a span what it costs to set the rows from it on, and where its row ends.
+
+    For the tokens behind the span this is told already.
+    """
     count = len(widths)
-    costs = [0] * count
-    ends = [count] * count
-    for first in reversed(range(count)):
+    for first in reversed(range(span[0], span[1])):
         best = None
         used = -1
         for last in range(first, count):
@@ -43,7 +52,6 @@ def row_ends(widths, width):
                 best = cost
                 ends[first] = last + 1
         costs[first] = best
-    return ends
 
 
 def line_cost(rows, width):

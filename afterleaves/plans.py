@@ -1,8 +1,13 @@
 """Plans: whether to send, to wait or to recast at each of the editions that are to come."""
 
+from heapq import heappop, heappush
+
+from afterleaves.books import Book
 from afterleaves.errors import BadPrice, NoBook, TooMany
 from afterleaves.forms import is_sized, is_within
-from afterleaves.renewal import Renewal, fresh_book, judge_text
+from afterleaves.renewal import judge_sizes, judge_text, renewed
+from afterleaves.shapes import ShapeStore
+from afterleaves.successors import price_of
 
 RECAST = "recast"
 SEND = "send"
@@ -14,24 +19,40 @@ MOST_LATE = 3
 def plan_price(old, texts, form, words, *, late=3):
     """The price and the books of a plan; None if it is no plan, or if a book of it cannot be made."""
     _judge_plans(texts, late)
-    if not is_sized(words, len(texts), len(texts)) or not _is_plan(words, late):
+    if not is_sized(words, len(texts), len(texts)) or not _may_come(words, late, len(texts)):
         return None
-    return Office(old, texts, form).carried_out(words)
+    office = Office(old, texts, form)
+    price = 0
+    books = []
+    for k, word in enumerate(words):
+        if word != WAIT:
+            made = office.made(_sent_since(words[:k + 1]))
+            if made is None:
+                return None
+            price = price + made[0]
+            books.append(made[1])
+    return (price, tuple(books))
 
 
 def best_plan(old, texts, form, *, late=3):
     """The words and the price of the best plan."""
     _judge_plans(texts, late)
     office = Office(old, texts, form)
-    best = None
-    # Of plans at one price the least one comes first.
-    for words in _all_words(len(texts)):
-        made = office.carried_out(words) if _is_plan(words, late) else None
-        if made is not None and (best is None or made[0] < best[1]):
-            best = (words, made[0])
-    if best is None:
-        raise NoBook()
-    return best
+    # The beginnings of plans, the cheapest first, of several the least; the price of the last word can be open.
+    queue = [(0, (), True)]
+    while queue:
+        price, words, told = heappop(queue)
+        if not told:
+            made = office.made(_sent_since(words))
+            if made is not None:
+                heappush(queue, (price + made[0], words, True))
+        elif len(words) == len(texts):
+            return (words, price)
+        else:
+            for further in [(*words, word) for word in WORDS]:
+                if _may_come(further, late, len(texts)):
+                    heappush(queue, (price, further, further[-1] == WAIT))
+    raise NoBook()
 
 
 def _judge_plans(texts, late):
@@ -41,66 +62,55 @@ def _judge_plans(texts, late):
         raise BadPrice("late")
 
 
-def _all_words(count):
-    """All rows of so many words, ascending."""
-    rows = [()]
-    for _ in range(count):
-        rows = [(*row, word) for row in rows for word in WORDS]
-    return rows
-
-
-def _is_plan(words, late):
-    """Whether a row of things has only words of plans, does not wait too often in a row, and not at its end."""
+def _may_come(words, late, count):
+    """Whether things are words with which a plan of so many words can begin: it does not wait too often in a row,
+    and not at its end."""
     waiting = 0
     for word in words:
         waiting = waiting + 1 if word == WAIT else 0
         if word not in WORDS or waiting > late:
             return False
-    return waiting == 0
+    return len(words) < count or waiting == 0
+
+
+def _sent_since(words):
+    """What was sent since the last recast, this one among it: pairs of word and edition."""
+    sent = ()
+    for k, word in enumerate(words):
+        if word != WAIT:
+            sent = ((word, k),) if word == RECAST else (*sent, (word, k))
+    return sent
 
 
 class Office:
-    """An office that makes books for the texts to come, and remembers them.
+    """An office that makes books of the texts to come, and remembers them.
 
-    What it sends hangs on nothing but on what it sent since it recast the last time.
+    A book hangs on nothing but on what was sent since the last recast.
     """
 
     def __init__(self, old, texts, form):
         self.old = old
         self.texts = texts
-        self.form = form
-        self._sent = {}
+        self.store = ShapeStore(form)
+        self._made = {}
 
-    def carried_out(self, words):
-        """The price and the books of a plan, or None if a book cannot be made."""
-        price = 0
-        books = []
-        past = ()
-        for k, word in enumerate(words):
-            if word == WAIT:
-                continue
-            past = ((word, k),) if word == RECAST else (*past, (word, k))
-            made = self._made(past, books[-1] if books else self.old)
-            if made is None:
+    def made(self, sent):
+        """The price and the book of the last thing that was sent, or None if there is no such book."""
+        if sent not in self._made:
+            self._made[sent] = self._newly_made(sent)
+        return self._made[sent]
+
+    def _newly_made(self, sent):
+        word, k = sent[-1]
+        old = Book(())
+        if word == SEND:
+            ahead = self.made(sent[:-1]) if len(sent) > 1 else (0, self.old)
+            if ahead is None:
                 return None
-            price = price + made[0]
-            books.append(made[1])
-        return (price, tuple(books))
-
-    def _made(self, past, last):
-        """The price and the book of the last thing done in the past, the last book being sent ahead of it; or None."""
-        if past not in self._sent:
-            self._sent[past] = self._tried(past[-1], last)
-        return self._sent[past]
-
-    def _tried(self, done, last):
-        word, k = done
-        text = self.texts[k]
+            old = ahead[1]
         try:
-            if word == RECAST:
-                book = fresh_book(text, self.form)
-                return (len(book), book)
-            renewal = Renewal(last, text, self.form)
-            return (renewal.price, renewal.book)
+            judge_sizes(old, self.texts[k])
+            book = renewed(old, self.texts[k], self.store, 1, None)
         except (NoBook, TooMany):
             return None
+        return (price_of(old, book), book)

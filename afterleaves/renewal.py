@@ -7,6 +7,7 @@ from afterleaves.layout import Layout
 from afterleaves.listing import Listing
 from afterleaves.making import made_book
 from afterleaves.search import Search
+from afterleaves.shapes import ShapeStore
 from afterleaves.successors import judged_price, price_of, strokes_of
 
 MOST_BLOCKS = 12
@@ -22,10 +23,7 @@ class Renewal:
         judged_price(leaf, "leaf")
         if stroke is not None:
             judged_price(stroke, "stroke")
-        layout = Layout(text, form, old)
-        self.book = cheapest(Search(layout, Listing(layout), leaf, stroke, ()))
-        if self.book is None:
-            raise NoBook()
+        self.book = renewed(old, text, ShapeStore(form), leaf, stroke)
         self.price = price_of(old, self.book, leaf=leaf, stroke=stroke or 1)
         self._kept = tuple([one.label for one in self.book if is_kept(old, one)])
         self._sent = tuple([one.label for one in self.book if not is_kept(old, one)])
@@ -51,6 +49,15 @@ class Renewal:
     def strokes(self):
         """The strokes that are made on kept leaves."""
         return self._strokes
+
+
+def renewed(old, text, store, leaf, stroke):
+    """The book of a renewal; NoBook if there is none."""
+    layout = Layout(text, store, old)
+    book = cheapest(Search(layout, Listing(layout), leaf, stroke, ()))
+    if book is None:
+        raise NoBook()
+    return book
 
 
 def judge_text(text):

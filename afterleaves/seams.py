@@ -198,7 +198,8 @@ def _index_seams(whole):
     for row in whole.rows:
         if not row.is_of_entry():
             for token in row.tokens:
-                pages.setdefault(token, {})[row.place[0]] = True
+                shown = pages.setdefault(token, {})
+                shown[row.place[0]] = True
     return [unit[0] for unit in entries if not _is_true_entry(whole.book, _unit_tokens(unit), pages)]
 
 

@@ -1,7 +1,7 @@
 """The ways in which the rows of a block can be cut, as its pointers are wide or narrow."""
 
 from afterleaves.filling import ends_text
-from afterleaves.lines import row_ends, token_width
+from afterleaves.lines import fill_ends, token_width
 from afterleaves.printing import Printed
 
 # A digit is one wide, and no word has one: so many of them stand for a token of a pointer that is so wide.
@@ -36,22 +36,51 @@ def _row_owns(rows, items):
     return tuple(owns)
 
 
-def block_shapes(text, k, form, items, options):
-    """The shapes of a plain block whose pointers stand at these items and can have the widths of the options."""
-    vectors = [()]
-    for widths in options:
-        vectors = [(*vector, width) for vector in vectors for width in widths]
-    printed = Printed(text, k, tuple([DIGIT for item in items]), form) if items else None
-    if printed is None:
+class ShapeStore:
+    """The shapes of blocks in a format; they are found once, though the blocks stand in several texts."""
+
+    def __init__(self, form):
+        self.form = form
+        self._found = {}
+
+    def block_shapes(self, text, k, items, options):
+        """The shapes of a plain block whose pointers stand at these items and can have the widths of the options."""
+        key = (text.blocks[k], text.numbers[k], ends_text(text, k), tuple([tuple(widths) for widths in options]))
+        if key not in self._found:
+            self._found[key] = _block_shapes(text, k, self.form, items, options)
+        return self._found[key]
+
+
+def _block_shapes(text, k, form, items, options):
+    if not items:
         return (Shape(text, k, form, (), [()]),)
+    printed = Printed(text, k, tuple([DIGIT for item in items]), form)
     base = [token_width(token) for row in printed.rows for token in row.split(" ")]
     groups = {}
-    for vector in vectors:
-        for item, width in zip(items, vector):
-            base[item + 1] = width
-        if max(vector) <= form.width:
-            groups.setdefault(_cuts(row_ends(base, form.width)), []).append(vector)
+    for vector, ends in _all_ends(base, items, options, form.width):
+        groups.setdefault(_cuts(ends), []).append(vector)
     return tuple([Shape(text, k, form, items, groups[cuts]) for cuts in groups])
+
+
+def _all_ends(base, items, options, width):
+    """The pairs of vector and ends of rows for all choices of widths, in their order.
+
+    Rows are cut from their end on: what stands behind a pointer is cut once for all widths that it can have.
+    """
+    count = len(base)
+    rests = [((), base, [0] * count, [count] * count)]
+    behind = count
+    for item, widths in list(zip(items, options))[::-1]:
+        # The number of the block stands ahead of the items.
+        spot = item + 1
+        for vector, tokens, costs, ends in rests:
+            fill_ends(tokens, width, costs, ends, (spot + 1, behind))
+        rests = [((wide, *vector), [*tokens[:spot], wide, *tokens[spot + 1:]], list(costs), list(ends))
+                 for vector, tokens, costs, ends in rests for wide in widths if wide <= width]
+        behind = spot + 1
+    for vector, tokens, costs, ends in rests:
+        fill_ends(tokens, width, costs, ends, (0, behind))
+    return sorted([(vector, ends) for vector, tokens, costs, ends in rests])
 
 
 def _cuts(ends):

@@ -6,6 +6,7 @@ from afterleaves.layout import Layout
 from afterleaves.listing import Listing
 from afterleaves.renewal import any_book, cheapest, judge_sizes
 from afterleaves.search import Search
+from afterleaves.shapes import ShapeStore
 
 
 class Stayers:
@@ -13,7 +14,7 @@ class Stayers:
 
     def __init__(self, old, text, form):
         self.old = old
-        self.layout = Layout(text, form, old)
+        self.layout = Layout(text, ShapeStore(form), old)
         self.listing = Listing(self.layout)
         self._found = []
 

@@ -1,6 +1,7 @@
 import unittest
 from itertools import product
 from random import Random
+from time import perf_counter
 
 from afterleaves.books import Book
 from afterleaves.edits import edited
@@ -197,6 +198,21 @@ class BestPlanTest(unittest.TestCase):
                 last = tried(old, texts, form, ("wait",) * (len(texts) - 1) + ("recast",), late)
                 self.assertTrue(last is None or price <= last[0])
         self.assertGreater(len(found), 8)
+
+    def test_time(self):
+        # Pointers of one paragraph that can have very many widths together, in a text of twelve blocks.
+        items = ("office", ("see", "b"), "sum", ("span", "b", "d"), "if", ("span", "a", "b"), "fee", ("see", "d"), "desk", "pays")
+        blocks = [para(name, *LONG[:9]) for name in "abcdefghij"]
+        blocks[2] = para("c", *items)
+        old = fresh_book(Text([*blocks, ("index", "words", ("desk", "fee", "sum"))]), Format(30, 4))
+        texts = []
+        for k in range(4):
+            blocks[k + 3] = para("defg"[k], "desk", *LONG[:k + 4])
+            texts.append(Text([*blocks, ("index", "words", ("desk", "fee", "sum"))]))
+        began = perf_counter()
+        words, price = best_plan(old, texts, Format(30, 4))
+        self.assertLess(perf_counter() - began, 10)
+        self.assertEqual(plan_price(old, texts, Format(30, 4), words)[0], price)
 
     def test_what_is_passed_stays(self):
         texts = [setting(), edited(setting(), ("put", 2, para("new", "x")))]
