@@ -24,10 +24,10 @@ class Packet:
 
     def __call__(self, book):
         """The binder behind the filing of the packet into a book."""
-        leaves = {leaf.label: leaf for leaf in book if leaf.label not in self}
+        there = {leaf.label: leaf for leaf in book if leaf.label not in self}
         for leaf in self.leaves:
-            leaves[leaf.label] = leaf
-        return Book([leaves[label] for label in sorted(list(leaves))])
+            there[leaf.label] = leaf
+        return Book([there[label] for label in sorted(list(there))])
 
     def __add__(self, other):
         return Packet(_joined_stretches(self, other))
@@ -90,12 +90,12 @@ def _kept_stretch(thing):
 
 def _joined_stretches(one, other):
     """The stretches of the packet that does what one packet does and, behind it, the other one."""
-    leaves = {leaf.label: leaf for leaf in one.leaves if leaf.label not in other}
+    there = {leaf.label: leaf for leaf in one.leaves if leaf.label not in other}
     for leaf in other.leaves:
-        leaves[leaf.label] = leaf
-    labels = sorted(list(leaves))
+        there[leaf.label] = leaf
+    labels = sorted(list(there))
     bounds = [(numbered_label(low), numbered_label(high)) for low, high in _connected(one.spans + other.spans)]
-    return [(low, high, [leaves[label] for label in labels if is_inside(label, low, high)]) for low, high in bounds]
+    return [(low, high, [there[label] for label in labels if is_inside(label, low, high)]) for low, high in bounds]
 
 
 def _connected(spans):

@@ -74,8 +74,9 @@ class Keepers:
 
     def are_safe_with(self, packet):
         """Whether a packet leads none of them to a chimera, or to a binder in which a pointer is misled."""
-        for binder in self.binders:
-            if not self._is_harmless(packet(binder)):
+        # All of them file it ahead of what is judged: so too many leaves of one of them are always told.
+        for binder in [packet(binder) for binder in self.binders]:
+            if not self._is_harmless(binder):
                 return False
         return True
 

@@ -164,6 +164,16 @@ class SafeTest(unittest.TestCase):
         # With the one sending that clears all there is no harm.
         self.assertEqual(least_safe(Archive(FORM, texts[:4], books[:4])), ())
 
+    def test_too_many_leaves_of_a_later_keeper(self):
+        # Who filed nothing holds a chimera; that another keeper would hold too many leaves is told all the same.
+        for count, fits in ((1, True), (2, False)):
+            archive = fat_archive((1, 1), (8, 1), (2, 1), (2, (8, 8, 8, count)))
+            self.assertIn((3,), [row for binder, row in chimeras(archive)] if fits else [(3,)])
+            if fits:
+                self.assertFalse(is_safe(archive, ()))
+            else:
+                self.assertRaises(TooMany, is_safe, archive, ())
+
     def test_too_many_leaves_behind_earlier_sendings(self):
         archive = fat_archive((8, 1), (1, 1), (1, (8, 8, 8, 2)), (1, (8, 8, 8, 2)))
         self.assertRaises(TooMany, is_safe, archive, ())
