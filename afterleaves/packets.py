@@ -69,7 +69,8 @@ def _judged_stretches(stretches):
 
 def _is_behind(stretch, ahead):
     """Whether a stretch begins not below the end of the one ahead of it."""
-    return _span(stretch[0], stretch[1])[0] >= _span(ahead[0], ahead[1])[1]
+    low, high = stretch[:2]
+    return _span(low, high)[0] >= _span(low, ahead[1])[1]
 
 
 def _kept_stretch(thing):
@@ -131,7 +132,7 @@ def parting(one, other):
     # Whether a label is cleared changes only behind the beginning of a stretch and at its end.
     changes = sorted([number for low, high in one.spans + other.spans for number in (low + 1, high)])
     labels = [numbered_label(number) for number in changes]
-    parted = [label for label in labels if label is not None and (label in one) != (label in other)]
+    parted = [label for label in labels if (label in one) != (label in other)]
     return Book((Leaf(parted[0], (FILLER,), ()),))
 
 

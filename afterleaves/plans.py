@@ -104,10 +104,8 @@ class Office:
         word, k = sent[-1]
         old = Book(())
         if word == SEND:
-            ahead = self.made(sent[:-1]) if len(sent) > 1 else (0, self.old)
-            if ahead is None:
-                return None
-            old = ahead[1]
+            # Nothing is sent behind a book that could not be made.
+            old = self.made(sent[:-1])[1] if len(sent) > 1 else self.old
         try:
             judge_sizes(old, self.texts[k])
             book = renewed(old, self.texts[k], self.store, 1, None)

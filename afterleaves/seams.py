@@ -21,7 +21,7 @@ LOOSE = "loose"
 class Row:
     """A text row of a binder: its place (page, row), the tokens that are said, and the number they begin with.
 
-    Unit is the sign of the block or entry to which it belongs, or None.
+    Unit is the sign of the block or entry to which it belongs, that of drawn rows, or None.
     """
 
     def __init__(self, place, tokens):
@@ -57,7 +57,7 @@ class Whole:
     """A binder that is read as a whole.
 
     Units are the lists of rows that belong together: one that begins a block or entry, and those that go on with
-    it. Unfit are the rows that may not come where they come.
+    it; each drawn row is one, too. Unfit are the rows that may not come where they come.
     """
 
     def __init__(self, binder):
@@ -80,10 +80,9 @@ class Whole:
         if self._behind == PARA or (sign == DRAWN and self._behind not in (FIGURE, DRAWN)):
             self.unfit.append(row)
         self._behind = sign
-        if sign != DRAWN:
-            row.unit = sign
-            self.units.append([row])
-            self._close(row)
+        row.unit = sign
+        self.units.append([row])
+        self._close(row)
 
     def _go_on(self, row):
         """Takes the next row, which goes on with something."""

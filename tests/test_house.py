@@ -191,7 +191,8 @@ class ErrorTest(unittest.TestCase):
         for entry in (None, "send", (), ("Send",), ("send", 1), ("recast", "desk"), ("begin",), ("begin", ""), ("begin", "A"), ("begin", "abcdefghi"), ("begin", "a", "b"),
                       ("edit",), ("edit", MORE, MORE), ("file", "desk"), ("file", "desk", True), ("file", "desk", "1"), ("file", "desk", 1, 1), ("file", 1, 1),
                       ("lose", "desk"), ("lose", "desk", 1), ("lose", "desk", (0,)), ("lose", "desk", (1, True)), ("lose", "Desk", (1,)), ("heal",), ("heal", None),
-                      ("heal", "desk", 1), ("drop", "desk"), (1,), (("send",),), ({},), ("lose", "desk", (1,), 1), 5, True):
+                      ("heal", "desk", 1), ("drop", "desk"), (1,), (("send",),), ({},), ("lose", "desk", (1,), 1), 5, True,
+                      ("file", "desk", (1,)), ("send", "desk", (1,)), ("begin", "desk", (1,)), ("heal", "desk", (1,)), ("lost", "desk", (1,))):
             self.assertIsInstance(self.raised(BadEntry, house, entry), BadForm)
         self.assertEqual(house.entries, (("begin", "desk"),))
 

@@ -28,6 +28,14 @@ class MeetingTest(unittest.TestCase):
                 self.assertEqual(meeting(FOUR, wanted, steady=steady), row)
                 self.assertEqual(meeting(FOUR, aslists(wanted), steady=steady), row)
 
+    def test_keepers_are_steady_unless_it_is_told(self):
+        self.assertIsNone(meeting(FOUR, ((A, 3), (B, 2))))
+        self.assertRaises(Unreached, surely_filed, FOUR, FOUR.binder((3, 2)))
+        self.assertRaises(Unreached, surely_missed, FOUR, FOUR.binder((3, 2)))
+        self.assertEqual(rows_to(FOUR, FOUR.binder((3, 2))), ())
+        # What hasty keepers can have at a label steady ones can have, too.
+        self.assertEqual(healing_packet(FOUR), healing_packet(FOUR, steady=False))
+
     def test_leaves_that_are_the_same_in_several_editions(self):
         for k in range(5):
             self.assertEqual(meeting(SAME, ((A, k), (B, 4 - k))), ())
@@ -132,6 +140,9 @@ class SureTest(unittest.TestCase):
         for row in every_row(3, False):
             again = filed_again(letters, letters.binder(row))
             self.assertEqual(letters.binder(row + again), letters.newest)
+        # Any order is allowed, though the keeper is steady.
+        turned = archive_of(((1, "a", ""), (2, "b", "")), ((1, "x", ""), (2, "b", "")), ((1, "y", ""), (2, "z", "")), ((1, "x", ""), (2, "z", "")))
+        self.assertEqual(filed_again(turned, turned.books[0]), (2, 1))
         self.assertEqual(filed_again(SAME, SAME.newest), ())
         self.assertEqual(filed_again(ONE, ONE.newest), ())
 

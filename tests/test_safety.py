@@ -118,6 +118,12 @@ class SafeTest(unittest.TestCase):
         same = archive_of(*[((1, "a", ""),)] * 3)
         self.assertEqual((least_safe(same), enlarged(same, ()).stretches), ((), ()))
 
+    def test_only_steady_keepers_are_looked_at(self):
+        archive = archive_of(((1, "a", ""), (2, "b", "")), ((1, "x", ""), (2, "b", "")), ((1, "a", ""), (2, "d", "")), ((1, "a", ""), (2, "d", "")))
+        self.assertEqual([row for binder, row in chimeras(archive, steady=False)], [(2, 1)])
+        self.assertTrue(is_safe(archive, ()))
+        self.assertEqual(least_safe(archive), ())
+
     def test_with_all_labels(self):
         random = Random(121)
         for _ in range(40):
